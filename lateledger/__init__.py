@@ -1,0 +1,1 @@
+"""Lateledger: a market with double books, in which truths come late."""
