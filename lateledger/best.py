@@ -1,7 +1,7 @@
 """What solves a system, what is best for aims in sequence, and the papers for both."""
 
 from lateledger.errors import InvalidAims, InvalidSystem, NoEnd, NoSolution
-from lateledger.ratios import Ratio, are_numbers, is_number, ratio_of, ratios_of, sum_of_products
+from lateledger.ratios import are_numbers, ratio_of, ratios_of, sum_of_products
 from lateledger.solving import Solver, worth_of
 from lateledger.systems import AT_MOST, System
 from lateledger.words import is_list, is_pair, is_triple
@@ -39,7 +39,7 @@ def solution(system):
     solver = _solver(system, [])
     if solver.bar() is not None:
         return None
-    return solver.values()
+    return solver.found()
 
 
 def bar(system):
@@ -124,7 +124,7 @@ def best(system, aims):
     solver = _solved(system, aims)
     if solver.way() is not None:
         raise NoEnd()
-    return (solver.values(), solver.support())
+    return (solver.found(), solver.support())
 
 
 def is_best(system, aims, value):
@@ -192,7 +192,7 @@ def way(system, aims):
     direction = solver.way()
     if direction is None:
         return None
-    return (solver.values(), direction)
+    return (solver.found(), direction)
 
 
 def is_way(system, aims, value):
@@ -230,7 +230,7 @@ def first(system, aims=()):
     solver = _solved(system, aims)
     if solver.way_first() is not None:
         raise NoEnd()
-    return solver.values()
+    return solver.found()
 
 
 def spans(system):
@@ -243,4 +243,4 @@ def spans(system):
 def _reached(solver, place, sign):
     if solver.way_of(place, sign) is not None:
         return None
-    return solver.values()[place]
+    return solver.found()[place]

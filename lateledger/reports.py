@@ -205,7 +205,8 @@ def _check_prices(chart, offered, prices):
 
 
 def _in_sequence(prices):
-    return [name for _, name in sorted([(price, name) for name, price in prices.items()])]
+    pairs = sorted([(price, name) for name, price in prices.items()])
+    return [pair[1] for pair in pairs]
 
 
 def _cheapest_names(chart, offered, prices):

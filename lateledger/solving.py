@@ -89,7 +89,7 @@ class Solver:
         """Likewise for one unknown alone, to be great for the sign 1, small for -1."""
         return self._way_for([(place, sign)])
 
-    def values(self):
+    def found(self):
         """The list of the values where the tableau stands."""
         bottom = self._tableau.common_bottom() * self._scale
         return [Ratio(top, bottom) for top in self._tableau.tops()[:self._many]]

@@ -1,7 +1,7 @@
 """Reports as vectors: their own weights, set against those of one account in each unit."""
 
+from lateledger.accounts import is_place
 from lateledger.errors import InvalidReport, InvalidReports, TooMany
-from lateledger.accounts import check_chart, is_place
 from lateledger.words import is_integer, is_name
 
 MOST_REPORTS = 12
@@ -72,12 +72,8 @@ class Weighing:
         """Take a list of reports."""
         self._chart = chart
         told = [set_off_weights(chart, report) for report in reports]
-        places = {}
-        for weights in told:
-            for place in weights:
-                places[place] = True
-        self._places = sorted(places)
-        self._rows = [[weights.get(place, 0) for place in self._places] for weights in told]
+        self._places = sorted({place for weights in told for place in weights})
+        self._rows = [[row.get(at, 0) for at in self._places] for row in told]
 
     def rows(self):
         """The list of the rows."""

@@ -4,7 +4,7 @@ from lateledger.accounts import check_chart
 from lateledger.errors import InvalidNumbers
 from lateledger.journals import Journal, lines_of
 from lateledger.lattices import WholeEquations
-from lateledger.ratios import Ratio, is_number, ratio_of, sum_of_products
+from lateledger.ratios import is_number, sum_of_products
 from lateledger.reports import are_numbers_for, bar_or_amounts
 from lateledger.weighing import Weighing, are_known, check_many, check_reports
 from lateledger.words import is_integer

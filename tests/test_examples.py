@@ -1,0 +1,61 @@
+"""The examples of the document, word for word, as far as their files have landed."""
+
+import doctest
+import unittest
+from pathlib import Path
+
+BEST = """
+>>> from lateledger.systems import System
+>>> from lateledger.best import bar, first, is_bar, worth
+>>> two = System([(0, None), (0, 5)], [([1, 1], "at most", 7), ([1, -1], "equals", 1)])
+>>> [first(two, [[1, 1]]), worth(two, [[0, 1], [1, 0]]), two.does_solve([3, 2])]
+[[Ratio(4, 1), Ratio(3, 1)], (Ratio(3, 1), Ratio(4, 1)), True]
+>>> none = two + ([0, 1], "at most", -1)
+>>> [bar(two), is_bar(none, ([0, 0, 1], [0, 1], [0, 0]))]
+[None, True]
+"""
+
+BOOKS = """
+>>> from lateledger.accounts import Chart
+>>> from lateledger.journals import Journal
+>>> from lateledger.ratios import Ratio
+>>> from lateledger.reports import are_weights, cheapest_set, difference, is_told, least_sets, value
+>>> from lateledger.wholes import do_stand, do_stand_whole, is_whole_bar
+>>> chart = Chart(["anna", "anna.coin", "ben", "hall"], ["coin"])
+>>> books = Journal(chart, [[("anna.coin", "coin", 5), ("ben", "coin", -5)], [("ben", "coin", 2), ("hall", "coin", -2)]])
+>>> kept, rest = {"a": {("anna", "coin"): 1}, "b": {("ben", "coin"): 2}}, {("hall", "coin"): 1}
+>>> [books.balance("anna", "coin") == Ratio(5), value(books, kept["b"]) == Ratio(-6), value(books, rest) == Ratio(-2)]
+[True, True, True]
+>>> [are_weights(chart, kept, rest, {"a": -1, "b": Ratio(-1, 2)}), is_told(chart, {"b": kept["b"]}, rest)]
+[True, False]
+>>> some = {"x": {("anna", "coin"): 1}, "y": {("ben", "coin"): 1}, "z": rest}
+>>> [least_sets(chart, some), cheapest_set(chart, some, {"x": 3, "y": 1, "z": 2})]
+[[['x', 'y'], ['x', 'z'], ['y', 'z']], ['y', 'z']]
+>>> [do_stand(chart, kept, {"a": 1, "b": 1}), do_stand_whole(chart, kept, {"a": 1, "b": 1})]
+[True, False]
+>>> is_whole_bar(chart, kept, {"a": 1, "b": 1}, {"b": Ratio(1, 2)})
+True
+"""
+
+
+class ExamplesTest(unittest.TestCase):
+    def run_example(self, text):
+        found = []
+        test = doctest.DocTestParser().get_doctest(text, {}, "example", None, 0)
+        doctest.DocTestRunner().run(test, out=found.append)
+        self.assertEqual("".join(found), "")
+        self.assertGreater(len(test.examples), 3)
+
+    def test_best(self):
+        self.run_example(BEST)
+
+    def test_books(self):
+        self.run_example(BOOKS)
+
+    def test_readme(self):
+        text = (Path(__file__).parent.parent / "README.md").read_text(encoding="ascii")
+        self.run_example(text.replace("```", ""))
+
+
+if __name__ == "__main__":
+    unittest.main()
