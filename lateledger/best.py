@@ -2,6 +2,7 @@
 
 from lateledger.errors import InvalidAims, InvalidSystem, NoEnd, NoSolution
 from lateledger.ratios import are_numbers, ratio_of, ratios_of, sum_of_products
+from lateledger.shorter import shorter, shorter_bar, shorter_direction
 from lateledger.solving import Solver, worth_of
 from lateledger.systems import AT_MOST, System
 from lateledger.words import is_list, is_pair, is_triple
@@ -39,13 +40,16 @@ def solution(system):
     solver = _solver(system, [])
     if solver.bar() is not None:
         return None
-    return solver.found()
+    return shorter(system.unknowns(), system.rows(), solver.found())
 
 
 def bar(system):
     """A bar of the system, or None."""
     _check_system(system)
-    return _solver(system, []).bar()
+    paper = _solver(system, []).bar()
+    if paper is None:
+        return None
+    return shorter_bar(system.unknowns(), system.rows(), paper)
 
 
 def is_bar(system, value):
@@ -167,9 +171,9 @@ def _gain(aim, at, rows, support, place):
 
 def _stands_right(sign, number, low, high):
     if sign > 0:
-        return high is not None and number == high
+        return number == high
     if sign < 0:
-        return low is not None and number == low
+        return number == low
     return True
 
 
@@ -192,7 +196,8 @@ def way(system, aims):
     direction = solver.way()
     if direction is None:
         return None
-    return (solver.found(), direction)
+    unknowns, rows = system.unknowns(), system.rows()
+    return (shorter(unknowns, rows, solver.found()), shorter_direction(unknowns, rows, aims, direction))
 
 
 def is_way(system, aims, value):

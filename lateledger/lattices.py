@@ -5,7 +5,7 @@ from lateledger.spaces import Elimination
 
 
 def shared_divisor(one, other):
-    """The greatest number that divides both, and how often each is taken to come to it."""
+    """The greatest number that divides both, COUNTS not both 0, and how often each is taken to come to it."""
     left, left_often, right_often = one, 1, 0
     right, next_left, next_right = other, 0, 1
     while right != 0:
@@ -13,8 +13,6 @@ def shared_divisor(one, other):
         left, right = right, left - often * right
         left_often, next_left = next_left, left_often - often * next_left
         right_often, next_right = next_right, right_often - often * next_right
-    if left < 0:
-        return -left, -left_often, -right_often
     return left, left_often, right_often
 
 
@@ -69,7 +67,6 @@ class Lattice:
         base, old = self._base[place], self._tracks[place]
         divisor, often, more = shared_divisor(base[place], rest[place])
         fresh = [self._less(often * part + more * other) for part, other in zip(base, rest)]
-        fresh[place] = divisor
         self._base[place] = fresh
         self._tracks[place] = self._joined(old, often, track, more)
         less, much = base[place] // divisor, rest[place] // divisor
@@ -77,10 +74,8 @@ class Lattice:
         return left, self._joined(track, less, old, -much)
 
     def bar(self, vector):
-        """The Ratios whose sum with each vector of the lattice is whole, and with this one is not; None if it is in."""
+        """The Ratios by which each vector of the lattice comes to an integer, and this one, not in it, does not."""
         place = self._reduced(vector)[0]
-        if place is None:
-            return None
         numbers = [Ratio(0) for _ in range(self._size)]
         numbers[place] = Ratio(1, self._base[place][place])
         for at in reversed(range(place)):

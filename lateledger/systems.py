@@ -53,6 +53,17 @@ def lies_within(number, low, high):
     return high is None or ratio_of(number).is_at_most(high)
 
 
+def do_solve(unknowns, rows, values):
+    """Whether NUMBERS, one for each unknown, lie within the ends and keep the rows, both as they are told."""
+    if not all([lies_within(part, low, high) for part, (low, high) in zip(values, unknowns)]):
+        return False
+    for weights, word, bound in rows:
+        told = sum_of_products(weights, values)
+        if not told.is_at_most(bound) or (word == EQUALS and told.is_below(bound)):
+            return False
+    return True
+
+
 def _check_unknowns(unknowns):
     if not is_list(unknowns) or not 1 <= len(unknowns) <= MOST_UNKNOWNS:
         raise InvalidUnknowns(None)
@@ -108,15 +119,7 @@ class System:
         """Whether any value is a list of values that solve the system."""
         if not are_numbers(value, len(self._unknowns)):
             return False
-        if not all([lies_within(part, low, high) for part, (low, high) in zip(value, self._unknowns)]):
-            return False
-        return self._do_rows_hold(self.sums(value))
-
-    def _do_rows_hold(self, sums):
-        for told, (_, word, bound) in zip(sums, self._rows):
-            if not told.is_at_most(bound) or (word == EQUALS and told.is_below(bound)):
-                return False
-        return True
+        return do_solve(self._unknowns, self._rows, value)
 
     def __add__(self, other):
         if not is_row(other, len(self._unknowns)):

@@ -62,7 +62,7 @@ def set_off_weights(chart, report):
 
 def are_known(kept, value):
     """Whether any value is a dict whose keys are names of the kept reports."""
-    return isinstance(value, dict) and all([isinstance(name, str) and name in kept for name in value])
+    return isinstance(value, dict) and all([name in kept for name in value])
 
 
 class Weighing:

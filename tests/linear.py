@@ -5,7 +5,7 @@ from itertools import product
 
 from lateledger.ratios import Ratio
 from lateledger.systems import System
-from tests.support import dot, fraction, fractions, sign_of
+from tests.support import dot, fraction, fractions, sign_of, total
 
 
 def solves(system, values):
@@ -37,7 +37,7 @@ def bars(system, paper):
             return False
         if low is None and lows[place] != 0 or high is None and highs[place] != 0:
             return False
-        weights = sum((number * fraction(row[0][place]) for number, row in zip(multipliers, rows)), Fraction(0))
+        weights = total(number * fraction(row[0][place]) for number, row in zip(multipliers, rows))
         if weights + highs[place] - lows[place] != 0:
             return False
         told += highs[place] * fraction(high or 0) - lows[place] * fraction(low or 0)
@@ -57,8 +57,7 @@ def supports(system, aims, values, support):
         if word == "at most" and (sign_of(part) < 0 or sign_of(part) > 0 and dot(weights, values) != fraction(bound)):
             return False
     for place, (low, high) in enumerate(system.unknowns()):
-        gain = [fraction(aim[place]) - sum((fraction(part[at]) * fraction(row[0][place])
-                                            for part, row in zip(support, system.rows())), Fraction(0))
+        gain = [fraction(aim[place]) - dot([part[at] for part in support], [row[0][place] for row in system.rows()])
                 for at, aim in enumerate(aims)]
         sign, number = sign_of([Ratio(part.numerator, part.denominator) for part in gain]), fraction(values[place])
         if sign > 0 and (high is None or number != fraction(high)):

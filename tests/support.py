@@ -1,6 +1,7 @@
 """What the tests share: values of every kind, and the sums of the document over Fractions."""
 
 from fractions import Fraction
+from math import lcm
 
 from lateledger.accounts import Chart
 from lateledger.journals import Journal
@@ -31,8 +32,15 @@ def fractions(numbers):
     return [fraction(number) for number in numbers]
 
 
+def total(numbers):
+    """The sum of some Fractions, reduced once only."""
+    numbers = list(numbers)
+    bottom = lcm(*[number.denominator for number in numbers])
+    return Fraction(sum(number.numerator * (bottom // number.denominator) for number in numbers), bottom)
+
+
 def dot(numbers, others):
-    return sum((fraction(one) * fraction(other) for one, other in zip(numbers, others)), Fraction(0))
+    return total(fraction(one) * fraction(other) for one, other in zip(numbers, others))
 
 
 def sign_of(numbers):

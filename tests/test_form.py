@@ -182,6 +182,7 @@ class FormTest(unittest.TestCase):
         properties, methods, others = [], [], []
         for name, node in self.all_of(ast.ClassDef):
             self.assertEqual(node.decorator_list, [])
+            self.assertTrue(node.name[0].isalpha(), node.name)
             inside = [part.name for part in node.body if isinstance(part, ast.FunctionDef)]
             self.assertEqual(len(set(inside)), len(inside), node.name)
             stored = {part.attr for part in ast.walk(node) if isinstance(part, ast.Attribute) and isinstance(part.ctx, ast.Store)}

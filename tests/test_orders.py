@@ -162,6 +162,8 @@ class RoundTest(Checks, unittest.TestCase):
     def test_without(self):
         for names, told in (([], "xyz"), (["x"], "yz"), (("x", "z"), "y"), (["y", "y"], "xz"), (["z", "x", "y", "x"], "")):
             self.assertEqual(list(self.deals.without(names).orders()), list(told))
+        for value in (None, "x", {"x": 1}, 1, SELL):
+            self.assert_keeps(UnknownOrder, value, self.deals.without, value)
         for value in values_of_every_kind() + ["w", ["x"]]:
             self.assert_keeps(UnknownOrder, value, self.deals.without, [value])
             self.assert_keeps(UnknownOrder, value, self.deals.without, ("x", value, "x", "w"))

@@ -163,6 +163,10 @@ class RatioTest(Checks, unittest.TestCase):
             self.assert_keeps(InvalidNumber, value, Ratio.total, (1, Ratio(1, 2), value))
             self.assert_keeps(InvalidNumber, value, Ratio.total, [1, value, "x", None])
 
+    def test_total_of_no_list(self):
+        for value in (None, 1, "12", {1: 2}, Ratio(1)):
+            self.assert_keeps(InvalidNumber, value, Ratio.total, value)
+
     def test_total_changes_nothing(self):
         passed = [1, Ratio(1, 2), 3]
         Ratio.total(passed)

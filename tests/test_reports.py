@@ -194,6 +194,8 @@ class ToldOrApartTest(Checks, unittest.TestCase):
                       [("ab", "coin", True), ("b", "coin", -1)], [("ab", "coin", HALF), ("b", "coin", -HALF)]):
             self.assert_bool(is_difference(CHART, kept, REST, entry), False)
         self.assert_bool(is_difference(CHART, {}, REST, [("ab", "coin", 1), ("a", "coin", -1)]), True)
+        for one, other in ((Ratio(1), Ratio(-1)), (1, Ratio(-1)), (Ratio(1), -1), (HALF, -HALF)):
+            self.assert_bool(is_difference(CHART, {}, REST, [("ab", "coin", one), ("a", "coin", other)]), False)
 
     def test_judges_like_the_sums(self):
         source = Random(63)
@@ -337,7 +339,7 @@ class KeptSetsTest(Checks, unittest.TestCase):
         offered = {**KEPT, "z": REST}
         for names in (["x", "y"], ("x", "z"), ["y", "z"], ["x", "y", "z"]):
             self.assert_bool(is_kept_set(CHART, offered, names), True)
-        for names in (["y", "x"], ["x", "x", "y"], ["x"], [], ["x", "w"], ["x", "y", None], "xy", {"x": 1, "y": 1}, ["x", ["y"]],
+        for names in (["y", "x"], ["x", "x", "y"], ["x"], [], ["x", "zz"], ["x", "y", "zz"], ["a", "x", "y"], ["x", "y", None], "xy", {"x": 1, "y": 1}, ["x", ["y"]],
                       ["x", 1], None, {"x", "y"}):
             self.assert_bool(is_kept_set(CHART, offered, names), False)
 
@@ -354,7 +356,7 @@ class KeptSetsTest(Checks, unittest.TestCase):
                       (["x", "y", "z"], {}, apart), (["x"], {"y": {}, "z": {}}, {"x": apart["x"]}), (None, told, apart),
                       (["x", "y"], None, apart), (["x", "y"], told, None), (["x", "y"], {"z": None}, apart),
                       (["x", "y"], told, {"x": None, "y": apart["y"]}), (["x", "y"], {"z": {"x": -1, "y": -HALF}, 1: {}}, apart),
-                      (["x", "y", "w"], told, apart), (["x", "y"], told, {"x": apart["x"], "w": apart["y"]}),
+                      (["x", "y", "zz"], told, apart), (["x", "y"], told, {**apart, "zz": apart["x"]}), (["x", "y"], told, {"x": apart["x"], "w": apart["y"]}),
                       (["x", "y"], {"w": {"x": -1, "y": -HALF}}, apart)):
             self.assert_bool(is_set_paper(CHART, offered, prices, paper), False)
 

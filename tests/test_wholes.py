@@ -182,6 +182,36 @@ class StandWholeTest(WholesChecks, unittest.TestCase):
             found[self.check_whole(chart, kept, numbers)] += 1
         self.assertGreater(min(found), 100)
 
+    def test_weights_of_many_primes(self):
+        source, found = Random(93), [0, 0]
+        primes = (2, 3, 5, 7, 11)
+        accounts = [one + other for one in "abc" for other in "abc"]
+        for turn in range(120):
+            chart = Chart(accounts[:source.randint(3, 9)], ["coin", "oil"][:source.randint(1, 2)])
+            kept = {}
+            for name in ("x", "y", "z")[:source.randint(1, 3)]:
+                kept[name] = {}
+                for account in chart.accounts():
+                    for unit in chart.units():
+                        left = source.choice(primes) * source.choice(primes) if turn % 2 else 1
+                        kept[name][account, unit] = 2 * 3 * 5 * 7 * 11 // source.choice(primes) * left * source.choice([0, 1, -1])
+            numbers = {name: value_of_some_entry(chart, report, source) for name, report in kept.items()}
+            self.assertTrue(self.check_whole(chart, kept, numbers))
+            for name in numbers:
+                step = source.choice([1, 2, 6, 210])
+                found[self.check_whole(chart, kept, {**numbers, name: numbers[name] + step})] += 1
+        self.assertGreater(min(found), 20)
+
+    def test_great_weights(self):
+        source = Random(94)
+        for many in (12, 13, 14, 20):
+            chart = Chart([one + other for one in "abcd" for other in "abcde"][:many], ["coin"])
+            kept = {name: {(account, "coin"): 6 * source.randint(-10 ** 29, 10 ** 29) for account in chart.accounts()}
+                    for name in "abcdefghijkl"}
+            numbers = {name: value_of_some_entry(chart, report, source) for name, report in kept.items()}
+            self.assertTrue(self.check_whole(chart, kept, numbers))
+            self.assertFalse(self.check_whole(chart, kept, {**numbers, "c": numbers["c"] + 2}))
+
     def test_all_small_entries(self):
         chart = Chart(["a", "b", "c"], ["coin"])
         source = Random(92)
