@@ -40,6 +40,8 @@ class Solver:
         scaled_aims = [whole_multiples(aim) for aim in aims]
         self._row_scales = [scale for _, scale in scaled_rows]
         self._aim_scales = [scale for _, scale in scaled_aims]
+        first = len(unknowns) + len(rows)
+        self._aims = list(range(first, first + len(aims)))
         ends = list(unknowns)
         for row, scale in zip(rows, self._row_scales):
             bound = row[2] * scale
@@ -64,26 +66,22 @@ class Solver:
         highs = [max(number, 0) for number in ends]
         return (ratios_of(least[:len(multipliers)]), ratios_of(lows), ratios_of(highs))
 
-    def way(self, many=None):
-        """Make so many of the aims (all, if it is not told) great: None when they are as great as can be.
+    def way(self):
+        """Make all aims great, in sequence: None when they are as great as can be.
 
         Otherwise the direction in which they grow without end. Only once values are found.
         """
-        first = self._many + len(self._row_scales)
-        told = len(self._aim_scales) if many is None else many
-        return self._way_for([(first + place, 1) for place in range(told)])
+        return self._way_for([(variable, 1) for variable in self._aims])
+
+    def way_first(self):
+        """Likewise for all aims, and behind them each unknown in sequence."""
+        return self._way_for([(variable, 1) for variable in self._aims + list(range(self._many))])
 
     def _way_for(self, aims):
         numbers = self._tableau.climb(aims)
         if numbers is None:
             return None
         return ratios_of(least_whole(numbers[:self._many]))
-
-    def way_first(self):
-        """Likewise for all aims, and behind them each unknown in sequence."""
-        first = self._many + len(self._row_scales)
-        aims = [(first + place, 1) for place in range(len(self._aim_scales))]
-        return self._way_for(aims + [(place, 1) for place in range(self._many)])
 
     def way_of(self, place, sign):
         """Likewise for one unknown alone, to be great for the sign 1, small for -1."""
@@ -97,8 +95,7 @@ class Solver:
     def support(self):
         """The support of the values, once all aims are as great as can be."""
         bottom = self._tableau.common_bottom()
-        first = self._many + len(self._row_scales)
-        gains = [self._tableau.numbers_of(first + place) for place in range(len(self._aim_scales))]
+        gains = [self._tableau.numbers_of(variable) for variable in self._aims]
         told = []
         for place, scale in enumerate(self._row_scales):
             tops = [numbers.get(self._many + place, 0) * scale for numbers in gains]

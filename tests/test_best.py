@@ -160,6 +160,22 @@ class PapersTest(Checks, unittest.TestCase):
         paper = way(wide, [[0, 1], [-1, 5]])
         self.assertEqual(paper[1][1], Ratio(0))
 
+    def test_corners_at_which_the_search_could_go_round(self):
+        rows = [([Ratio(1, 4), -60, Ratio(-1, 25), 9], "at most", 0), ([HALF, -90, Ratio(-1, 50), 3], "at most", 0),
+                ([0, 0, 1, 0], "at most", 1)]
+        system, aim = System([(0, None)] * 4, rows), [Ratio(3, 4), -150, Ratio(1, 50), -6]
+        self.assertEqual(self.check_aims(system, [aim]), "best")
+        self.assertEqual(worth(system, [aim]), (Ratio(1, 20),))
+        self.assertEqual(self.check_aims(system, [aim, [0, 1, 0, 0], aim, [-1, 0, 0, -1]]), "best")
+
+    def test_a_long_climb(self):
+        for many in (4, 10, 16):
+            rows = [([2 ** (at - place + 1) if place < at else int(place == at) for place in range(many)], "at most",
+                     5 ** (at + 1)) for at in range(many)]
+            system, aim = System([(0, None)] * many, rows), [2 ** (many - 1 - place) for place in range(many)]
+            self.assertEqual(self.check_aims(system, [aim]), "best")
+            self.assertEqual(worth(system, [aim]), (Ratio(5 ** many),))
+
     def test_sixteen_unknowns_and_24_rows_with_great_numbers(self):
         source = Random(14)
 

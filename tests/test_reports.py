@@ -277,6 +277,7 @@ class KeptSetsTest(Checks, unittest.TestCase):
             offered = some_reports(source, chart, 5, 2)
             least = self.all_least(chart, offered)
             self.assert_same(least_sets(chart, offered), least)
+            self.assertEqual(len({len(names) for names in least}), 1)
             prices = {name: source.randint(0, 2) for name in offered}
             self.check_cheapest(chart, offered, prices, least)
             for many in range(len(offered) + 1):

@@ -67,6 +67,28 @@ class ShortNumbersTest(Checks, unittest.TestCase):
         system = around(source, 8, 6, 0, [(None, None)] * 7 + [(0, 1)], 1)
         self.check_way(system, [[0] * 7 + [1], [0] * 8, [great(source) for _ in range(8)], [1] * 8])
 
+    def test_ways_that_leave_an_earlier_aim(self):
+        for seed in (1, 27, 30, 33):
+            source = Random(seed)
+            system = around(source, 8, 7, 0, [(None, None)] * 8, 1)
+            for place in (0, 3, 7):
+                aim = [int(at == place) for at in range(8)]
+                for first in (aim, [-one for one in aim]):
+                    self.check_way(system, [first, [great(source) for _ in range(8)]])
+
+    def test_bars_where_ends_are_missing(self):
+        source = Random(108)
+        for ends in ([(0, None)] * 4 + [(-9, 9)], [(None, 0)] * 4 + [(-9, 9)], [(-9, 9)] * 4 + [(None, None)]):
+            found = 0
+            while found < 3:
+                system = System(ends, [([great(source) for _ in range(5)], "at most", great(source)) for _ in range(14)])
+                paper = bar(system)
+                if paper is not None:
+                    found += 1
+                    self.assertTrue(bars(system, paper))
+                    self.assert_bool(is_bar(system, paper), True)
+                    self.assert_told_short(paper)
+
     def test_bars(self):
         source = Random(105)
         for rows in (20, 24):
