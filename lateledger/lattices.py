@@ -1,6 +1,6 @@
 """Equations of integers that want integers: the sums of INTEGER multiples of vectors."""
 
-from lateledger.ratios import Ratio
+from lateledger.ratios import Ratio, are_short, whole_multiples
 from lateledger.spaces import Elimination
 
 
@@ -137,3 +137,20 @@ class WholeEquations:
         for column, often in track.items():
             found[column] = Ratio(often)
         return found
+
+
+def shorter_solution(rows, many, bounds, solution):
+    """The solution, a dict from columns to Ratios, or a short one if this is long and such is found.
+
+    One of INTEGERS for all bounds times one scale has no other bottom than this scale.
+    """
+    if are_short(list(solution.values())):
+        return solution
+    whole_bounds, scale = whole_multiples(bounds)
+    found = WholeEquations(rows, many).solved(whole_bounds)[0]
+    if found is None:
+        return solution
+    told = {column: number.over(scale) for column, number in found.items()}
+    if are_short(list(told.values())):
+        return told
+    return solution

@@ -5,6 +5,9 @@ from math import gcd, lcm
 from lateledger.errors import DividedByZero, InvalidNumber
 from lateledger.words import is_integer, is_list
 
+# Numbers of so many bits have no more than 500 digits.
+MOST_BITS = 1660
+
 
 def is_number(value):
     """Whether any value is a NUMBER: an INTEGER or a Ratio."""
@@ -34,6 +37,17 @@ def shared_bottom(numbers):
     for number in numbers:
         bottom = lcm(bottom, number.bottom)
     return bottom
+
+
+def whole_multiples(numbers):
+    """The least list of integers that are the Ratios times one scale, and this scale."""
+    scale = shared_bottom(numbers)
+    return [number.top * (scale // number.bottom) for number in numbers], scale
+
+
+def are_short(numbers):
+    """Whether all Ratios have tops and bottoms of no more than 500 digits."""
+    return all([max(abs(number.top), number.bottom).bit_length() <= MOST_BITS for number in numbers])
 
 
 def sum_of_products(numbers, others):

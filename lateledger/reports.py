@@ -3,6 +3,7 @@
 from lateledger.accounts import check_chart
 from lateledger.errors import DoNotStand, InvalidNumbers, InvalidPrices, NotTold, TooMany
 from lateledger.journals import check_journal, is_entry
+from lateledger.lattices import shorter_solution
 from lateledger.ratios import Ratio, is_number, ratio_of, sum_of_products
 from lateledger.solving import least_whole
 from lateledger.spaces import Elimination, rank
@@ -130,7 +131,8 @@ def bar_or_amounts(chart, kept, numbers):
     bounds = [ratio_of(numbers[name]) for name in names]
     found = elimination.contradiction(bounds)
     if found is None:
-        return None, weighing.amounts(elimination.solution(bounds))
+        solution = elimination.solution(bounds)
+        return None, weighing.amounts(shorter_solution(weighing.rows(), weighing.width(), bounds, solution))
     return {name: Ratio(number) for name, number in zip(names, least_whole(found))}, None
 
 

@@ -1,17 +1,9 @@
 """Short solutions: where the corner that was found has long numbers, values near the middle may have short ones."""
 
-from lateledger.ratios import Ratio, ratios_of, sum_of_products
-from lateledger.solving import Solver, whole_multiples
+from lateledger.ratios import MOST_BITS, Ratio, are_short, ratios_of, sum_of_products, whole_multiples
+from lateledger.solving import Solver
 from lateledger.spaces import Elimination
 from lateledger.systems import AT_MOST, EQUALS, do_solve
-
-# Numbers of so many bits have no more than 500 digits.
-MOST_BITS = 1660
-
-
-def are_short(numbers):
-    """Whether all Ratios have tops and bottoms of no more than 500 digits."""
-    return all([max(abs(number.top), number.bottom).bit_length() <= MOST_BITS for number in numbers])
 
 
 def shorter(unknowns, rows, values):

@@ -2,15 +2,9 @@
 
 from math import gcd
 
-from lateledger.ratios import Ratio, ratios_of, shared_bottom, sum_of_products
+from lateledger.ratios import Ratio, ratios_of, shared_bottom, sum_of_products, whole_multiples
 from lateledger.systems import EQUALS
 from lateledger.tableaus import Tableau
-
-
-def whole_multiples(numbers):
-    """The least list of integers that are the Ratios times one scale, and this scale."""
-    scale = shared_bottom(numbers)
-    return [number.top * (scale // number.bottom) for number in numbers], scale
 
 
 def least_whole(numbers):

@@ -3,11 +3,14 @@
 import unittest
 from random import Random
 
+from lateledger.accounts import Chart
 from lateledger.best import bar, is_bar, is_way, solution, way
 from lateledger.ratios import Ratio
 from lateledger.systems import System
+from lateledger.wholes import journal_with
+from tests.books import value_by_sums
 from tests.linear import bars, leads, solves
-from tests.support import GREAT, Checks
+from tests.support import GREAT, Checks, fraction
 
 
 def great(source):
@@ -101,6 +104,21 @@ class ShortNumbersTest(Checks, unittest.TestCase):
             self.assert_bool(is_bar(system, paper), True)
             self.assert_told_short(paper)
             self.assertEqual([part.__class__ for part in paper], [list, list, list])
+
+    def test_journals(self):
+        source = Random(109)
+        accounts = [one + other for one in "abcd" for other in "abcde"]
+        for many, short in ((20, True), (14, True), (13, False)):
+            chart = Chart(accounts[:many], ["coin"])
+            kept = {name: {(account, "coin"): source.randint(-GREAT, GREAT) for account in chart.accounts()}
+                    for name in "abcdefghijkl"}
+            numbers = {name: great(source) for name in kept}
+            journal = journal_with(chart, kept, numbers)
+            for name, number in numbers.items():
+                self.assertEqual(value_by_sums(journal.entries(), kept[name]), fraction(number))
+            if short:
+                self.assert_told_short(journal.entries())
+            self.assertEqual(journal_with(chart, kept, numbers), journal)
 
     def test_where_no_result_is_short(self):
         source = Random(106)
