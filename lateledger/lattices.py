@@ -1,6 +1,6 @@
 """Equations of integers that want integers: the sums of INTEGER multiples of vectors."""
 
-from lateledger.ratios import Ratio, are_short, whole_multiples
+from lateledger.ratios import MOST_BITS, Ratio, are_short, shared_bottom, whole_multiples
 from lateledger.spaces import Elimination
 
 
@@ -146,11 +146,14 @@ def shorter_solution(rows, many, bounds, solution):
     """
     if are_short(list(solution.values())):
         return solution
+    equations = WholeEquations(rows, many)
     whole_bounds, scale = whole_multiples(bounds)
-    found = WholeEquations(rows, many).solved(whole_bounds)[0]
-    if found is None:
-        return solution
-    told = {column: number.over(scale) for column, number in found.items()}
-    if are_short(list(told.values())):
-        return told
+    while scale.bit_length() <= MOST_BITS:
+        found, bar = equations.solved(whole_bounds)
+        if found is not None:
+            told = {column: number.over(scale) for column, number in found.items()}
+            return told if are_short(list(told.values())) else solution
+        # What the bar tells apart by parts of 1 is no longer told apart by so often as much.
+        often = shared_bottom(bar)
+        whole_bounds, scale = [bound * often for bound in whole_bounds], scale * often
     return solution
