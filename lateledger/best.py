@@ -1,8 +1,9 @@
 """What solves a system, what is best for aims in sequence, and the papers for both."""
 
+from lateledger.barring import shorter_bar
 from lateledger.errors import InvalidAims, InvalidSystem, NoEnd, NoSolution
 from lateledger.ratios import are_numbers, ratio_of, ratios_of, sum_of_products
-from lateledger.shorter import shorter, shorter_bar, shorter_direction
+from lateledger.shorter import face_of, first_sign_of, gain_of, shorter, shorter_direction, shorter_support
 from lateledger.solving import Solver, worth_of
 from lateledger.systems import AT_MOST, System
 from lateledger.words import is_list, is_pair, is_triple
@@ -118,17 +119,25 @@ def outcome(system, aims):
 
 def worth(system, aims):
     """The tuple of the greatest worth."""
-    return worth_of(aims, best(system, aims)[0])
+    return worth_of(aims, _best_solver(system, aims).found())
 
 
-def best(system, aims):
-    """A tuple of best values and a support of them."""
+def _best_solver(system, aims):
     _check_system(system)
     _check_aims(system, aims, 1)
     solver = _solved(system, aims)
     if solver.way() is not None:
         raise NoEnd()
-    return (solver.found(), solver.support())
+    return solver
+
+
+def best(system, aims):
+    """A tuple of best values and a support of them."""
+    solver = _best_solver(system, aims)
+    unknowns, rows = system.unknowns(), system.rows()
+    values, support = solver.found(), solver.support()
+    ends, told = face_of(unknowns, rows, aims, support)
+    return (shorter(ends, told, values), shorter_support(unknowns, rows, aims, values, support))
 
 
 def is_best(system, aims, value):
@@ -150,7 +159,7 @@ def _is_support(system, aims, values, support):
     if not _are_rows_supported(rows, system.sums(values), support):
         return False
     for place, (low, high) in enumerate(system.unknowns()):
-        gain = [_gain(aim, at, rows, support, place) for at, aim in enumerate(aims)]
+        gain = gain_of(rows, aims, support, place)
         if not _stands_right(first_sign_of(gain), values[place], low, high):
             return False
     return True
@@ -164,26 +173,12 @@ def _are_rows_supported(rows, sums, support):
     return True
 
 
-def _gain(aim, at, rows, support, place):
-    weights = [row[0][place] for row in rows]
-    return ratio_of(aim[place]) - sum_of_products([part[at] for part in support], weights)
-
-
 def _stands_right(sign, number, low, high):
     if sign > 0:
         return number == high
     if sign < 0:
         return number == low
     return True
-
-
-def first_sign_of(numbers):
-    """The sign of the first of some NUMBERS that is not 0: 1 if they are above nought, -1 if below; else 0."""
-    for number in numbers:
-        sign = ratio_of(number).sign
-        if sign != 0:
-            return sign
-    return 0
 
 
 def way(system, aims):

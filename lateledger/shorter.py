@@ -1,140 +1,221 @@
-"""Short solutions: where the corner that was found has long numbers, values near the middle may have short ones."""
+"""Short numbers: where those of the corner that was found are long, short ones are looked for elsewhere."""
 
-from lateledger.ratios import MOST_BITS, Ratio, are_short, ratios_of, sum_of_products, whole_multiples
-from lateledger.solving import Solver
+from lateledger.cones import Cone, Line, units
+from lateledger.ratios import Ratio, are_short, ratios_of, sum_of_products, whole_multiples
 from lateledger.spaces import Elimination
 from lateledger.systems import AT_MOST, EQUALS, do_solve
 
 
-def shorter(unknowns, rows, values):
-    """The values that solve the rows, or short ones if these are long and such are found."""
+def shorter(unknowns, rows, values, strict=()):
+    """The values that solve the rows, or short ones if these are long and such are found.
+
+    The rows at the positions that are called strict are to stay below their bounds.
+    """
     if are_short(values):
         return values
-    middle = _middle(unknowns, rows)
-    if middle is None:
-        return values
-    hanging = Hanging(unknowns, rows)
-    scale = 10
-    while scale.bit_length() <= MOST_BITS:
-        found = hanging.completed([rounded(number, scale) for number in middle])
-        if are_short(found) and do_solve(unknowns, rows, found):
-            return found
-        scale = scale * scale
-    return values
-
-
-def rounded(number, scale):
-    """The Ratio over the scale that is next to a Ratio."""
-    return Ratio((2 * number.top * scale + number.bottom) // (2 * number.bottom), scale)
-
-
-def _is_fixed(low, high):
-    return low is not None and low == high
+    told = list(values)
+    fixed = _fixed(unknowns, rows)
+    for places in _parted(len(unknowns), rows, fixed):
+        if not are_short([told[place] for place in places]):
+            part = Part(unknowns, rows, values, places, strict)
+            found = part.found()
+            if found is not None:
+                for place, number in zip(places, found):
+                    told[place] = number
+    return told
 
 
 def _unit(many, place, number):
     return [Ratio(number) if at == place else Ratio(0) for at in range(many)]
 
 
-def _middle(unknowns, rows):
-    """Values around which there is room: all that are no farther off in any unknown keep ends and "at most" rows.
-
-    The room is one unknown more, to be as great as can be, but at most 1. None if there is no room.
-    """
+def _fixed(unknowns, rows):
+    """The dict of the unknowns that have one value alone, by equal ends and "equals" rows."""
     many = len(unknowns)
-    ends, wide = [], []
-    for place, (low, high) in enumerate(unknowns):
-        if _is_fixed(low, high):
-            ends.append((low, high))
-            continue
-        ends.append((None, None))
-        if low is not None:
-            wide.append((_unit(many, place, -1) + [Ratio(1)], AT_MOST, -low))
-        if high is not None:
-            wide.append((_unit(many, place, 1) + [Ratio(1)], AT_MOST, high))
-    for weights, word, bound in rows:
-        sizes = [weight.size() for weight in weights]
-        wide.append((weights + [Ratio(0) if word == EQUALS else Ratio.total(sizes)], word, bound))
-    solver = Solver(ends + [(Ratio(0), Ratio(1))], wide, [_unit(many + 1, many, 1)])
-    if solver.bar() is not None or solver.way() is not None:
-        return None
-    found = solver.found()
-    if found[many].sign == 0:
-        return None
-    return found[:many]
+    equal = [_unit(many, place, 1) for place, (low, high) in enumerate(unknowns) if low is not None and low == high]
+    equal = equal + [weights for weights, word, _ in rows if word == EQUALS]
+    elimination = Elimination([whole_multiples(weights)[0] for weights in equal], many)
+    return {place: True for place in elimination.determined()}
 
 
-class Hanging:
-    """The unknowns that hang on the others by "equals" rows and equal ends."""
-
-    def __init__(self, unknowns, rows):
-        many = len(unknowns)
-        told = [(_unit(many, place, 1), low) for place, (low, high) in enumerate(unknowns) if _is_fixed(low, high)]
-        told = told + [(weights, bound) for weights, word, bound in rows if word == EQUALS]
-        whole = [whole_multiples(weights) for weights, _ in told]
-        self._lines = [line for line, _ in whole]
-        self._bounds = [bound * scale for (_, bound), (_, scale) in zip(told, whole)]
-        self._elimination = Elimination(self._lines, many)
-        self._pivots = self._elimination.pivots()
-
-    def completed(self, values):
-        """The values, with others for the unknowns that hang on them."""
-        free = [Ratio(0) if place in self._pivots else number for place, number in enumerate(values)]
-        left = [bound - sum_of_products(line, free) for line, bound in zip(self._lines, self._bounds)]
-        found = self._elimination.solution(left)
-        return [found.get(place, number) for place, number in enumerate(free)]
+def _parted(many, rows, fixed):
+    """The lists of those unknowns that hang together by rows; the fixed ones are in none."""
+    parts = [[place] for place in range(many) if place not in fixed]
+    for weights, _, _ in rows:
+        apart, joined = [], []
+        for part in parts:
+            if all([weights[place].sign == 0 for place in part]):
+                apart.append(part)
+            else:
+                joined = joined + part
+        if len(joined) > 0:
+            parts = apart + [sorted(joined)]
+    return parts
 
 
-def shorter_bar(unknowns, rows, paper):
-    """The bar, or a short one if this is long and such is found."""
-    multipliers, lows, highs = paper
-    many = len(unknowns)
-    # Few rows make short sums: so only those are taken that the bar takes.
-    used = [place for place, number in enumerate(multipliers) if number.sign != 0]
-    ends, lines = _system_of_bars(unknowns, [rows[place] for place in used])
-    found = shorter(ends, lines, highs + lows + [multipliers[place] for place in used])
-    told = [Ratio(0) for _ in rows]
-    for place, number in zip(used, found[2 * many:]):
-        told[place] = number
-    return (told, found[many:2 * many], found[:many])
+class Part:
+    """Some unknowns of a system, as integers over one bottom, which stands behind them."""
 
+    def __init__(self, unknowns, rows, values, places, strict):
+        self._ends = [unknowns[place] for place in places]
+        self._rows, self._strict = [], []
+        for at, (weights, word, bound) in enumerate(rows):
+            own = [weights[place] for place in places]
+            if any([weight.sign != 0 for weight in own]):
+                others = sum_of_products(weights, values) - sum_of_products(own, [values[place] for place in places])
+                self._rows.append((own, word, bound - others))
+                self._strict.append(at in strict)
 
-def _system_of_bars(unknowns, rows):
-    """The ends and rows of a system solved by just the bars with a sum of at most -1.
+    def found(self):
+        """Short values of the unknowns, None if none are found."""
+        many = len(self._ends)
+        equations = [self._weights(row) for row in self._rows if row[1] == EQUALS]
+        lines = [Line([0 for _ in range(many)] + [1], [], True)]
+        for place, (low, high) in enumerate(self._ends):
+            if low is not None:
+                lines.append(Line(self._weights((_unit(many, place, 1), AT_MOST, low)), [], False))
+            if high is not None:
+                lines.append(Line(self._weights((_unit(many, place, -1), AT_MOST, -high)), [], False))
+        for row, is_strict in zip(self._rows, self._strict):
+            if row[1] == AT_MOST:
+                lines.append(Line([-weight for weight in self._weights(row)], [], is_strict))
+        return Cone(lines, 0, self).found(units(many + 1), equations)
 
-    Its unknowns are the numbers for highs, those for lows, then the multipliers: so these are the ones that are free.
-    """
-    many = len(unknowns)
-    ends = [_ends_for(high) for _, high in unknowns] + [_ends_for(low) for low, _ in unknowns]
-    ends = ends + [(Ratio(0) if word == AT_MOST else None, None) for _, word, _ in rows]
-    lines = []
-    for place in range(many):
-        weights = [row[0][place] for row in rows]
-        lines.append((_unit(many, place, 1) + _unit(many, place, -1) + weights, EQUALS, Ratio(0)))
-    sums = [_or_nought(high) for _, high in unknowns] + [-_or_nought(low) for low, _ in unknowns]
-    lines.append((sums + [row[2] for row in rows], AT_MOST, Ratio(-1)))
-    return ends, lines
+    def _weights(self, row):
+        """The integers by which values over a bottom come to the sum less the bound."""
+        return whole_multiples(row[0] + [-row[2]])[0]
 
-
-def _ends_for(end):
-    if end is None:
-        return (Ratio(0), Ratio(0))
-    return (Ratio(0), None)
-
-
-def _or_nought(end):
-    if end is None:
-        return Ratio(0)
-    return end
+    def told(self, vector):
+        """The values that a vector stands for, None if they are long or do not solve the rows."""
+        if vector[-1] <= 0:
+            return None
+        values = [Ratio(part, vector[-1]) for part in vector[:-1]]
+        if not are_short(values) or not do_solve(self._ends, self._rows, values):
+            return None
+        for (weights, _, bound), is_strict in zip(self._rows, self._strict):
+            if is_strict and not sum_of_products(weights, values).is_below(bound):
+                return None
+        return values
 
 
 def shorter_direction(unknowns, rows, aims, direction):
     """The direction of a way, or a short one if this is long and such is found."""
-    ends = [(None if low is None else Ratio(0), None if high is None else Ratio(0)) for low, high in unknowns]
-    lines = [(weights, word, Ratio(0)) for weights, word, _ in rows]
-    for aim in aims:
-        if sum_of_products(aim, direction).sign != 0:
-            lines.append((ratios_of([-number for number in aim]), AT_MOST, Ratio(-1)))
-            break
-        lines.append((ratios_of(aim), EQUALS, Ratio(0)))
-    return shorter(ends, lines, direction)
+    if are_short(direction):
+        return direction
+    for many in range(len(aims)):
+        found = Direction(unknowns, rows, aims[:many], aims[many]).found()
+        if found is not None:
+            return found
+    return direction
+
+
+class Direction:
+    """The directions of ways that gain by one aim, and neither gain nor lose by those ahead of it."""
+
+    def __init__(self, unknowns, rows, ahead, aim):
+        self._many = len(unknowns)
+        self._places = [place for place, (low, high) in enumerate(unknowns) if low is None or high is None]
+        self._ends = [unknowns[place] for place in self._places]
+        self._rows = [(self._whole(weights), word) for weights, word, _ in rows]
+        self._rows = self._rows + [(self._whole(ratios_of(other)), EQUALS) for other in ahead]
+        self._aim = self._whole(ratios_of(aim))
+
+    def _whole(self, weights):
+        return whole_multiples([weights[place] for place in self._places])[0]
+
+    def found(self):
+        """A short direction, None if none is found."""
+        if len(self._places) == 0:
+            return None
+        many = len(self._places)
+        lines = [Line(self._aim, [], True)]
+        for place, (low, high) in enumerate(self._ends):
+            if low is not None:
+                lines.append(Line([1 if at == place else 0 for at in range(many)], [], False))
+            if high is not None:
+                lines.append(Line([-1 if at == place else 0 for at in range(many)], [], False))
+        lines = lines + [Line([-part for part in weights], [], False) for weights, word in self._rows if word == AT_MOST]
+        return Cone(lines, 0, self).found(units(many), [weights for weights, word in self._rows if word == EQUALS])
+
+    def told(self, vector):
+        """The direction that a vector stands for, None if it is long or none."""
+        numbers = ratios_of(vector)
+        ends = [(None if low is None else Ratio(0), None if high is None else Ratio(0)) for low, high in self._ends]
+        rows = [(ratios_of(weights), word, Ratio(0)) for weights, word in self._rows]
+        if not are_short(numbers) or not do_solve(ends, rows, numbers):
+            return None
+        if sum_of_products(self._aim, numbers).sign <= 0:
+            return None
+        told = {place: number for place, number in zip(self._places, numbers)}
+        return [told.get(place, Ratio(0)) for place in range(self._many)]
+
+
+def face_of(unknowns, rows, aims, support):
+    """The unknowns and rows of a system that is solved by just the best values, for which there is this support."""
+    ends = []
+    for place, (low, high) in enumerate(unknowns):
+        sign = first_sign_of(gain_of(rows, aims, support, place))
+        ends.append((high, high) if sign > 0 else (low, low) if sign < 0 else (low, high))
+    told = [(weights, EQUALS if first_sign_of(parts) > 0 else word, bound)
+            for (weights, word, bound), parts in zip(rows, support)]
+    return ends, told
+
+
+def gain_of(rows, aims, support, place):
+    """The tuple of the gain of an unknown by a support."""
+    weights = [row[0][place] for row in rows]
+    return tuple([sum_of_products([parts[at] for parts in support], [-weight for weight in weights]) + aim[place]
+                  for at, aim in enumerate(aims)])
+
+
+def first_sign_of(numbers):
+    """The sign of the first of some NUMBERS that is not 0: 1 if they are above nought, -1 if below; else 0."""
+    for number in ratios_of(numbers):
+        if number.sign != 0:
+            return number.sign
+    return 0
+
+
+def shorter_support(unknowns, rows, aims, values, support):
+    """The support of the values, or a short one if this is long and such is found, aim by aim."""
+    told = [list(parts) for parts in support]
+    for at, aim in enumerate(aims):
+        numbers = [parts[at] for parts in told]
+        if not are_short(numbers):
+            ends, lines, strict = _system_of_supports(unknowns, rows, aims, values, (told, at))
+            found = shorter(ends, lines, numbers, strict)
+            for parts, number in zip(told, found):
+                parts[at] = number
+    return [tuple(parts) for parts in told]
+
+
+def _system_of_supports(unknowns, rows, aims, values, known):
+    """The ends and rows of a system solved by just the parts for one aim with which the others are a support.
+
+    Told behind them are the rows that must stay below their bounds, so that the parts for later aims may stay.
+    """
+    support, at = known
+    ends, lines, strict = [], [], []
+    for place, ((weights, word, bound), parts) in enumerate(zip(rows, support)):
+        is_free = word == EQUALS or first_sign_of(parts[:at]) > 0
+        if not is_free and sum_of_products(weights, values).is_below(bound):
+            ends.append((Ratio(0), Ratio(0)))
+        else:
+            ends.append((None if is_free else Ratio(0), None))
+        if not is_free and first_sign_of(parts[at + 1:]) < 0:
+            strict.append(len(lines))
+            lines.append((_unit(len(rows), place, -1), AT_MOST, Ratio(0)))
+    for place, (low, high) in enumerate(unknowns):
+        weights, number = [row[0][place] for row in rows], Ratio.total([aims[at][place]])
+        gain = gain_of(rows, aims, support, place)
+        is_high, is_low = values[place] == high, values[place] == low
+        if first_sign_of(gain[:at]) != 0 or (is_high and is_low):
+            continue
+        later = first_sign_of(gain[at + 1:])
+        if (is_high and later < 0) or (is_low and later > 0):
+            strict.append(len(lines))
+        if is_low:
+            lines.append((ratios_of([-weight for weight in weights]), AT_MOST, -number))
+        else:
+            lines.append((weights, AT_MOST if is_high else EQUALS, number))
+    return ends, lines, strict

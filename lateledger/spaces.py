@@ -32,6 +32,13 @@ class Elimination:
         """The dict from the columns with a pivot to their rows."""
         return {column: self._owners[column] for column in sorted(self._owners)}
 
+    def determined(self):
+        """The sorted list of the columns with a pivot that hang on no other column."""
+        others = [column for column in range(len(self._cells[0]) if len(self._cells) > 0 else 0)
+                  if column not in self._owners]
+        return [column for column, row in sorted(self._owners.items())
+                if all([self._cells[row][other] == 0 for other in others])]
+
     def determinant(self):
         """The size of the determinant of the rows and columns with pivots."""
         return self._bottom

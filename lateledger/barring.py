@@ -1,0 +1,149 @@
+"""Short bars: by few rows that quarrel, or by short multipliers of many rows."""
+
+from lateledger.cones import Cone, Line, units
+from lateledger.ratios import Ratio, are_short, ratios_of, sum_of_products, whole_multiples
+from lateledger.solving import Solver
+from lateledger.systems import AT_MOST
+
+# The search for few rows looks at so few only, and asks so often at most whether some rows have a solution.
+MOST_FEW = 4
+MOST_ASKED = 300
+
+
+def shorter_bar(unknowns, rows, paper):
+    """The bar, or a short one if this is long and such is found."""
+    if all([are_short(numbers) for numbers in paper]):
+        return paper
+    used = [place for place, number in enumerate(paper[0]) if number.sign != 0]
+    for places in (Quarrel(unknowns, rows).fewest(), used, list(range(len(rows)))):
+        if places is not None and len(places) > 0:
+            found = Bar(unknowns, rows, places).found()
+            if found is not None:
+                return found
+    return paper
+
+
+def hitting(sets, many):
+    """At most so many members, at least one of each set; None if so many are not enough."""
+    if len(sets) == 0:
+        return []
+    if many == 0:
+        return None
+    for member in sets[0]:
+        told = hitting([one for one in sets if member not in one], many - 1)
+        if told is not None:
+            return [member] + told
+    return None
+
+
+class Quarrel:
+    """Rows without a solution, of which the fewest are looked for that have none. It changes by what it has asked."""
+
+    def __init__(self, unknowns, rows):
+        self._unknowns = unknowns
+        self._rows = rows
+        self._asked = 0
+
+    def fewest(self):
+        """The positions of the fewest rows that have no solution; None if they are many, or the work too much."""
+        # Each set is of rows outside of some that have a solution: one of it is in all rows that have none.
+        sets = []
+        while self._asked < MOST_ASKED:
+            chosen = None
+            for many in range(MOST_FEW + 1):
+                if chosen is None:
+                    chosen = hitting(sets, many)
+            if chosen is None:
+                return None
+            values = self._solution(chosen)
+            if values is None:
+                return sorted(chosen)
+            sets = sorted(sets + [self._left_by(chosen, values)], key=len)
+        return None
+
+    def _solution(self, places):
+        self._asked = self._asked + 1
+        solver = Solver(self._unknowns, [self._rows[place] for place in places])
+        if solver.bar() is not None:
+            return None
+        return solver.found()
+
+    def _left_by(self, chosen, values):
+        """The rows outside of as many as still have a solution with the chosen ones."""
+        kept, left = list(chosen), []
+        for place, row in enumerate(self._rows):
+            if place not in chosen:
+                found = values if _is_kept(row, values) else self._solution(kept + [place])
+                if found is None:
+                    left.append(place)
+                else:
+                    kept, values = kept + [place], found
+        return left
+
+
+def _is_kept(row, values):
+    weights, word, bound = row
+    rest = sum_of_products(weights, values) - bound
+    return rest.sign == 0 or (rest.sign < 0 and word == AT_MOST)
+
+
+class Bar:
+    """The bars of a system that take some of its rows alone."""
+
+    def __init__(self, unknowns, rows, places):
+        self._unknowns = unknowns
+        self._places = places
+        self._many = len(rows)
+        self._rows = [rows[place] for place in places]
+
+    def found(self):
+        """A short bar, None if none is found."""
+        many = len(self._rows)
+        wide = [place for place, (low, high) in enumerate(self._unknowns)
+                if low is not None and high is not None and low != high]
+        equations = []
+        lines = [Line([1 if at == place else 0 for at in range(many)], [0 for _ in wide], False)
+                 for place, row in enumerate(self._rows) if row[1] == AT_MOST]
+        total = [-row[2] for row in self._rows]
+        for place, (low, high) in enumerate(self._unknowns):
+            weights = [row[0][place] for row in self._rows]
+            if low is None and high is None:
+                equations.append(whole_multiples(weights)[0])
+                continue
+            end = high if low is None else low
+            total = [part + weight * end for part, weight in zip(total, weights)]
+            if low is None:
+                weights = [-weight for weight in weights]
+            if low is None or high is None or place in wide:
+                lines.append(_line(weights, [1 if at == place else 0 for at in wide], False))
+        gaps = [self._unknowns[place][0] - self._unknowns[place][1] for place in wide]
+        lines.append(_line(total, gaps, True))
+        equations = [line for line in equations if any([part != 0 for part in line])]
+        return Cone(lines, len(wide), self).found(units(many), equations)
+
+    def told(self, vector):
+        """The bar that has a vector's multipliers, None if it is long or none."""
+        numbers = ratios_of(vector)
+        sums = [sum_of_products(numbers, [row[0][place] for row in self._rows]) for place in range(len(self._unknowns))]
+        total = sum_of_products(numbers, [row[2] for row in self._rows])
+        for (low, high), left in zip(self._unknowns, sums):
+            end = low if left.sign > 0 else high
+            if left.sign != 0 and end is None:
+                return None
+            if left.sign != 0:
+                total = total - left * end
+        if total.sign >= 0 or any([row[1] == AT_MOST and part < 0 for row, part in zip(self._rows, vector)]):
+            return None
+        multipliers = [Ratio(0) for _ in range(self._many)]
+        for place, number in zip(self._places, numbers):
+            multipliers[place] = number
+        lows = [left if left.sign > 0 else Ratio(0) for left in sums]
+        highs = [-left if left.sign < 0 else Ratio(0) for left in sums]
+        paper = (multipliers, lows, highs)
+        return paper if all([are_short(part) for part in paper]) else None
+
+
+def _line(weights, free, is_strict):
+    """The Line of a sum of Ratios."""
+    whole = whole_multiples(weights + ratios_of(free))[0]
+    return Line(whole[:len(weights)], whole[len(weights):], is_strict)
