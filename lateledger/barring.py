@@ -1,13 +1,15 @@
 """Short bars: by few rows that quarrel, or by short multipliers of many rows."""
 
-from lateledger.cones import Cone, Line, units
+from lateledger.cones import Cone, Line, rank_by_prime, units
 from lateledger.ratios import Ratio, are_short, ratios_of, sum_of_products, whole_multiples
-from lateledger.solving import Solver
+from lateledger.solving import Solver, least_whole
 from lateledger.systems import AT_MOST
 
-# The search for few rows looks at so few only, and asks so often at most whether some rows have a solution.
+# The search for few rows looks at so few only, and asks so often at most whether some rows have a solution: of more
+# rows together than those it would take long to ask that.
 MOST_FEW = 4
-MOST_ASKED = 300
+MOST_ASKED = 1500
+MOST_KEPT = 6
 
 
 def shorter_bar(unknowns, rows, paper):
@@ -15,12 +17,23 @@ def shorter_bar(unknowns, rows, paper):
     if all([are_short(numbers) for numbers in paper]):
         return paper
     used = [place for place, number in enumerate(paper[0]) if number.sign != 0]
-    for places in (Quarrel(unknowns, rows).fewest(), used, list(range(len(rows)))):
-        if places is not None and len(places) > 0:
-            found = Bar(unknowns, rows, places).found()
-            if found is not None:
-                return found
-    return paper
+    # The paper's multipliers are integers; without what they share, its sums may be short.
+    found = Bar(unknowns, rows, used).told(least_whole([paper[0][place].top for place in used]))
+    if found is None:
+        found = _by_rows(unknowns, rows, used)
+    if found is None:
+        few = Quarrel(unknowns, rows).fewest()
+        if few is not None:
+            found = Bar(unknowns, rows, few).found()
+    if found is None and len(used) < len(rows):
+        found = _by_rows(unknowns, rows, list(range(len(rows))))
+    return paper if found is None else found
+
+
+def _by_rows(unknowns, rows, places):
+    """A short bar by these rows, None if none is found, or if they have one bar alone, but for its multiples."""
+    bars = Bar(unknowns, rows, places)
+    return None if bars.are_like_one() else bars.found()
 
 
 def hitting(sets, many):
@@ -69,16 +82,14 @@ class Quarrel:
         return solver.found()
 
     def _left_by(self, chosen, values):
-        """The rows outside of as many as still have a solution with the chosen ones."""
-        kept, left = list(chosen), []
+        """The rows that some values do not keep that keep the chosen ones, and as many others as is tried."""
+        kept = list(chosen)
         for place, row in enumerate(self._rows):
-            if place not in chosen:
-                found = values if _is_kept(row, values) else self._solution(kept + [place])
-                if found is None:
-                    left.append(place)
-                else:
+            if place not in chosen and len(kept) < MOST_KEPT and not _is_kept(row, values):
+                found = self._solution(kept + [place])
+                if found is not None:
                     kept, values = kept + [place], found
-        return left
+        return [place for place, row in enumerate(self._rows) if not _is_kept(row, values)]
 
 
 def _is_kept(row, values):
@@ -96,19 +107,27 @@ class Bar:
         self._many = len(rows)
         self._rows = [rows[place] for place in places]
 
+    def _equations(self):
+        """The integers by which multipliers come to 0 at the unknowns without ends."""
+        columns = [whole_multiples([row[0][place] for row in self._rows])[0]
+                   for place, (low, high) in enumerate(self._unknowns) if low is None and high is None]
+        return [column for column in columns if any([part != 0 for part in column])]
+
+    def are_like_one(self):
+        """Whether all bars are multiples of one."""
+        return len(self._rows) - rank_by_prime(self._equations()) <= 1
+
     def found(self):
         """A short bar, None if none is found."""
         many = len(self._rows)
         wide = [place for place, (low, high) in enumerate(self._unknowns)
                 if low is not None and high is not None and low != high]
-        equations = []
         lines = [Line([1 if at == place else 0 for at in range(many)], [0 for _ in wide], False)
                  for place, row in enumerate(self._rows) if row[1] == AT_MOST]
         total = [-row[2] for row in self._rows]
         for place, (low, high) in enumerate(self._unknowns):
             weights = [row[0][place] for row in self._rows]
             if low is None and high is None:
-                equations.append(whole_multiples(weights)[0])
                 continue
             end = high if low is None else low
             total = [part + weight * end for part, weight in zip(total, weights)]
@@ -118,8 +137,7 @@ class Bar:
                 lines.append(_line(weights, [1 if at == place else 0 for at in wide], False))
         gaps = [self._unknowns[place][0] - self._unknowns[place][1] for place in wide]
         lines.append(_line(total, gaps, True))
-        equations = [line for line in equations if any([part != 0 for part in line])]
-        return Cone(lines, len(wide), self).found(units(many), equations)
+        return Cone(lines, len(wide), self).found(units(many), self._equations())
 
     def told(self, vector):
         """The bar that has a vector's multipliers, None if it is long or none."""

@@ -4,7 +4,7 @@ What is looked for is a vector of few digits. So the lattice of all vectors with
 bit, and as soon as it is known to hold some short vectors, the cone is looked for among the sums of these alone.
 """
 
-from lateledger.ratios import MOST_BITS, Ratio, ratios_of
+from lateledger.ratios import Ratio, ratios_of
 from lateledger.reducing import Reduction, dot, most_bits, shifted
 from lateledger.solving import Solver, least_whole
 from lateledger.systems import AT_MOST
@@ -12,7 +12,7 @@ from lateledger.systems import AT_MOST
 PRIME = 2305843009213693951
 FEED = 32
 # Vectors of more bits have no numbers of at most 500 digits, but for what their numbers share.
-LONG_BITS = MOST_BITS + 100
+LONG_BITS = 1760
 # The work is bounded, so that it ends soon where there is no short vector.
 MOST_STEPS = 200000
 MOST_TRIES = 60

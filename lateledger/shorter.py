@@ -134,8 +134,11 @@ class Direction:
                 lines.append(Line([1 if at == place else 0 for at in range(many)], [], False))
             if high is not None:
                 lines.append(Line([-1 if at == place else 0 for at in range(many)], [], False))
-        lines = lines + [Line([-part for part in weights], [], False) for weights, word in self._rows if word == AT_MOST]
-        return Cone(lines, 0, self).found(units(many), [weights for weights, word in self._rows if word == EQUALS])
+        equations = [weights for weights, word in self._rows if word == EQUALS]
+        for weights, word in self._rows:
+            if word == AT_MOST:
+                lines.append(Line([-part for part in weights], [], False))
+        return Cone(lines, 0, self).found(units(many), equations)
 
     def told(self, vector):
         """The direction that a vector stands for, None if it is long or none."""

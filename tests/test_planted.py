@@ -1,0 +1,93 @@
+"""[2]: OPEN results have no more than 500 digits where a short one is known; systems of long Ratios around one."""
+
+import unittest
+from random import Random
+
+from lateledger.best import bar, best, is_bar, is_best, is_way, solution, way
+from lateledger.systems import System
+from tests.linear import bars, leads, solves, supports
+from tests.planted import great, some_barred, some_best, some_solved, some_way
+from tests.support import GREAT, Checks
+
+
+class PlantedTest(Checks, unittest.TestCase):
+    def test_solutions(self):
+        for seed in range(12):
+            system, values = some_solved(Random(seed))
+            self.assertTrue(solves(system, values))
+            told = solution(system)
+            self.assertTrue(solves(system, told))
+            self.assert_told_short(told)
+            self.assertEqual(solution(system), told)
+
+    def test_best(self):
+        for seed in range(20):
+            system, aims, short = some_best(Random(seed))
+            self.assert_bool(is_best(system, aims, short), True)
+            told = best(system, aims)
+            self.assertTrue(supports(system, aims, *told))
+            self.assert_told_short(told)
+
+    def test_bars(self):
+        for seed in range(16):
+            system, short = some_barred(Random(seed))
+            self.assert_bool(is_bar(system, short), True)
+            told = bar(system)
+            self.assertTrue(bars(system, told))
+            self.assert_told_short(told)
+
+    def test_ways(self):
+        for seed in range(10):
+            system, aims, short = some_way(Random(seed))
+            self.assert_bool(is_way(system, aims, short), True)
+            told = way(system, aims)
+            self.assertTrue(leads(system, aims, *told))
+            self.assert_told_short(told)
+
+    def test_one_row_and_the_ends_of_sixteen_unknowns(self):
+        source = Random(5)
+        ends = [(great(source), None) for _ in range(16)]
+        weights = [great(source).size() for _ in range(16)]
+        system = System(ends, [([-one for one in weights], "at most", GREAT), (weights, "at most", -GREAT ** 3)])
+        self.assert_told_short(bar(system))
+        self.assertTrue(bars(system, bar(system)))
+
+    def test_values_that_all_stand_at_ends(self):
+        source = Random(6)
+        ends = [(great(source), None) for _ in range(16)]
+        told = best(System(ends), [[-1] * 16])
+        self.assertEqual(told, ([low for low, _ in ends], []))
+
+    def test_more_unknowns_than_rows(self):
+        """No corner is short here, but sums of short vectors are."""
+        source = Random(7)
+        rows = [([great(source) for _ in range(12)], "equals", great(source)) for _ in range(4)]
+        for ends in ([(None, None)] * 12, [(0, None)] * 6 + [(None, None)] * 6):
+            system = System(ends, rows)
+            self.assertTrue(solves(system, solution(system)))
+            self.assert_told_short(solution(system))
+
+    def test_parts_that_do_not_hang_together(self):
+        source = Random(8)
+        rows = []
+        for at in range(4):
+            for _ in range(2):
+                rows.append(([0] * (4 * at) + [great(source) for _ in range(4)] + [0] * (12 - 4 * at), "equals", great(source)))
+        system = System([(None, None)] * 16, rows)
+        self.assertTrue(solves(system, solution(system)))
+        self.assert_told_short(solution(system))
+
+    def test_supports_of_rows_that_all_touch(self):
+        source = Random(9)
+        rows = [([great(source) for _ in range(9)], "at most", 0) for _ in range(14)]
+        rows = rows + [([1, 2, 3, 0, 0, 0, 0, 0, 0], "at most", 0), ([0, 0, 0, 1, 1, 1, 0, 0, -1], "at most", 0)]
+        aims = [[1, 2, 3, 1, 1, 1, 0, 0, -1], [2, 4, 6, -1, -1, -1, 0, 0, 1]]
+        system = System([(None, None)] * 9, rows[::-1])
+        self.assert_bool(is_best(system, aims, ([0] * 9, [(1, -1), (1, 2)] + [(0, 0)] * 14)), True)
+        told = best(system, aims)
+        self.assertTrue(supports(system, aims, *told))
+        self.assert_told_short(told)
+
+
+if __name__ == "__main__":
+    unittest.main()
