@@ -69,7 +69,11 @@ class Solver:
 
     def way_first(self):
         """Likewise for all aims, and behind them each unknown in sequence."""
-        return self._way_for([(variable, 1) for variable in self._aims + list(range(self._many))])
+        return self.way_behind([(place, 1) for place in range(self._many)])
+
+    def way_behind(self, wanted):
+        """Likewise for all aims, and behind them unknowns, tuples (place, sign): great for 1, small for -1."""
+        return self._way_for([(variable, 1) for variable in self._aims] + wanted)
 
     def _way_for(self, aims):
         numbers = self._tableau.climb(aims)
