@@ -37,6 +37,28 @@ BOOKS = """
 True
 """
 
+ROUNDS = """
+>>> from lateledger.orders import Order, Round
+>>> from lateledger.fills import brings, first_fills, greatest_gain
+>>> from lateledger.rounds import price_span, told_prices, trades
+>>> deals = Round({"x": Order("a", {"tea": -1}, -4, 3), "y": Order("b", {"tea": 1}, 7, 2), "z": Order("c", {"tea": 1}, 9, 1)})
+>>> [first_fills(deals), told_prices(deals), price_span(deals, "tea"), greatest_gain(deals), brings(deals, ["z"])]
+[{'x': Ratio(3, 1), 'y': Ratio(2, 1), 'z': Ratio(1, 1)}, {'tea': Ratio(4, 1)}, (Ratio(4, 1), Ratio(7, 1)), Ratio(11, 1), Ratio(5, 1)]
+>>> trades(deals, {"x": 1, "y": 0, "z": 1}, {"tea": 6})
+[('x', 'a', {'tea': Ratio(-1, 1)}, Ratio(-6, 1)), ('z', 'c', {'tea': Ratio(1, 1)}, Ratio(6, 1))]
+"""
+
+CLEARINGS = """
+>>> from lateledger.flows import bound, fewest_set, greatest_volume, narrow, needless
+>>> from lateledger.lines import Clearing, rest
+>>> from lateledger.nets import first, line_more, spans
+>>> hall = Clearing({"a": 4, "b": -3, "c": -1}, [("a", "c", 2, 0), ("a", "b", 2, 1)])
+>>> [hall.lines(), greatest_volume(hall), fewest_set(hall), narrow(hall), bound(hall, ["a"])]
+[[('a', 'b', 2, 1), ('a', 'c', 2, 0)], Ratio(3, 1), ['a', 'c'], [('a', 'b'), ('c', 'b')], Ratio(4, 1)]
+>>> [first(hall), rest(hall, first(hall))["b"], line_more(hall, ("c", "b", 3, 2)), needless(hall), spans(hall)[0]]
+[[Ratio(2, 1), Ratio(1, 1)], Ratio(-1, 1), (Ratio(1, 1), Ratio(4, 1)), [], (Ratio(2, 1), Ratio(2, 1))]
+"""
+
 
 class ExamplesTest(unittest.TestCase):
     def run_example(self, text):
@@ -51,6 +73,12 @@ class ExamplesTest(unittest.TestCase):
 
     def test_books(self):
         self.run_example(BOOKS)
+
+    def test_rounds(self):
+        self.run_example(ROUNDS)
+
+    def test_clearings(self):
+        self.run_example(CLEARINGS)
 
     def test_readme(self):
         text = (Path(__file__).parent.parent / "README.md").read_text(encoding="ascii")
