@@ -3,7 +3,7 @@
 from lateledger.barring import shorter_bar
 from lateledger.errors import InvalidAims, InvalidSystem, NoEnd, NoSolution
 from lateledger.ratios import are_numbers, ratio_of, ratios_of, sum_of_products
-from lateledger.shorter import face_of, first_sign_of, gain_of, shorter, shorter_direction, shorter_support
+from lateledger.shorter import first_sign_of, gain_of, shorter, shorter_best, shorter_direction
 from lateledger.solving import Solver, worth_of
 from lateledger.systems import AT_MOST, System
 from lateledger.words import is_list, is_pair, is_triple
@@ -134,10 +134,7 @@ def _best_solver(system, aims):
 def best(system, aims):
     """A tuple of best values and a support of them."""
     solver = _best_solver(system, aims)
-    unknowns, rows = system.unknowns(), system.rows()
-    values, support = solver.found(), solver.support()
-    ends, told = face_of(unknowns, rows, aims, support)
-    return (shorter(ends, told, values), shorter_support(unknowns, rows, aims, values, support))
+    return shorter_best(system.unknowns(), system.rows(), aims, solver)
 
 
 def is_best(system, aims, value):

@@ -179,6 +179,13 @@ def first_sign_of(numbers):
     return 0
 
 
+def shorter_best(unknowns, rows, aims, solver):
+    """A tuple of the best values at which a Solver stands, and a support of them, or short ones of both."""
+    values, support = solver.found(), solver.support()
+    ends, told = face_of(unknowns, rows, aims, support)
+    return (shorter(ends, told, values), shorter_support(unknowns, rows, aims, values, support))
+
+
 def shorter_support(unknowns, rows, aims, values, support):
     """The support of the values, or a short one if this is long and such is found, aim by aim."""
     told = [list(parts) for parts in support]
