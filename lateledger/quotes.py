@@ -161,5 +161,5 @@ def is_sure_gain(futures, quotes, value):
     if not is_deal(quotes, value):
         return False
     coin, worths = outcome_by(futures, quotes, value)
-    signs = [number.sign for number in [coin, *worths.values()]]
+    signs = [number.sign for number in [coin] + list(worths.values())]
     return min(signs) >= 0 and max(signs) > 0

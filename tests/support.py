@@ -4,8 +4,10 @@ from fractions import Fraction
 from math import lcm
 
 from lateledger.accounts import Chart
+from lateledger.futures import Futures
 from lateledger.journals import Journal
 from lateledger.lines import Clearing
+from lateledger.moves import Moves
 from lateledger.orders import Order, Round
 from lateledger.ratios import Ratio
 from lateledger.systems import System
@@ -20,7 +22,8 @@ def values_of_every_kind():
         "Tea", "te a", "equals", "at most", "1", b"", b"a", [], [1], [True], [None], [[1]], [(1, 2)], (), (1,), (1, 2),
         (0, 0, 0), ([], [], []), {}, {"a": 1}, {"tea": 0}, {1: 1}, {True: 1}, {("a", "coin"): 1}, set(), frozenset(["a"]),
         range(2), Ratio(0), Ratio(1), Ratio(1, 2), object(), int, len, System([(0, 1)]), Chart(["a"], ["coin"]),
-        Journal(Chart(["a"], ["coin"])), Order("a", {}, 0, 0), Round({}), Clearing({"a": 0}), LookupError("a"), slice(0, 1),
+        Journal(Chart(["a"], ["coin"])), Order("a", {}, 0, 0), Round({}), Clearing({"a": 0}), Moves(["x"]),
+        Futures({"dry": {}}), LookupError("a"), slice(0, 1),
     ]
 
 

@@ -59,6 +59,36 @@ CLEARINGS = """
 [[Ratio(2, 1), Ratio(1, 1)], Ratio(-1, 1), (Ratio(1, 1), Ratio(4, 1)), [], (Ratio(2, 1), Ratio(2, 1))]
 """
 
+COVERS = """
+>>> from lateledger.cover import cover, is_cover_paper, outcome, tightened_covers, worst_move
+>>> from lateledger.moves import Moves, ring, tightest
+>>> from lateledger.shares import overpaying, saved
+>>> moves = Moves(["x", "y"], [("x", None, 2), (None, "x", 3), ("y", "x", 1), ("x", "y", 1)])
+>>> [str(cover(moves, {"x": 2, "y": -1})), worst_move(moves, {"x": 2, "y": -1}), tightest(moves, "y", None)]
+['4', {'x': -3, 'y': -2}, 3]
+>>> [is_cover_paper(moves, {"x": 2, "y": -1}, ({"x": -3, "y": -2}, [0, 1, 1, 0])), outcome(moves.without(1), {"x": 1})]
+[True, 'family']
+>>> [[str(m) for m in tightened_covers(moves, {"x": 2, "y": -1})], ring(moves + ("y", None, -5))]
+[['4', '3', '3', '4'], [1, 3, 4]]
+>>> two = {"ann": {"x": 1}, "bob": {"y": -1}}
+>>> [str(saved(moves, two)), overpaying(moves, two, {"ann": -3, "bob": 4})]
+['5', ['bob']]
+"""
+
+QUOTES = """
+>>> from lateledger.futures import Futures
+>>> from lateledger.quotes import broken_sides, fair_weights, outcome, sure_gain
+>>> from lateledger.spans import end_paper, lean, span
+>>> futures = Futures({"dry": {"corn": 4, "oil": 1}, "wet": {"corn": 2, "oil": 3}})
+>>> quotes, both = [({"corn": 1}, 2, 3), ({"oil": 1}, None, 2)], {"corn": 1, "oil": 1}
+>>> [span(futures, quotes, both), end_paper(futures, quotes, both)]
+[((Ratio(5, 2), False), (Ratio(5, 1), True)), ([(Ratio(1, 1), Ratio(0, 1)), (Ratio(1, 1), Ratio(0, 1))], {'dry': Ratio(1, 2), 'wet': Ratio(1, 2)})]
+>>> [outcome(futures, quotes, [(1, 0), (1, 0)]), broken_sides(futures, quotes, {"dry": 1, "wet": 0})]
+[(Ratio(-5, 1), {'dry': Ratio(5, 1), 'wet': Ratio(5, 1)}), [(0, 'ask')]]
+>>> [fair_weights(futures, [({"corn": 1}, 3, 3), ({"oil": 1}, None, 0)]), lean(futures, quotes + [(both, None, 6)])[2]]
+[None, ({'corn': 1, 'oil': 1}, None, None)]
+"""
+
 
 class ExamplesTest(unittest.TestCase):
     def run_example(self, text):
@@ -79,6 +109,12 @@ class ExamplesTest(unittest.TestCase):
 
     def test_clearings(self):
         self.run_example(CLEARINGS)
+
+    def test_covers(self):
+        self.run_example(COVERS)
+
+    def test_quotes(self):
+        self.run_example(QUOTES)
 
     def test_readme(self):
         text = (Path(__file__).parent.parent / "README.md").read_text(encoding="ascii")
