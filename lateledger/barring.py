@@ -107,7 +107,7 @@ class Bar:
         self._many = len(rows)
         self._rows = [rows[place] for place in places]
 
-    def _equations(self):
+    def _columns_without_ends(self):
         """The integers by which multipliers come to 0 at the unknowns without ends."""
         columns = [whole_multiples([row[0][place] for row in self._rows])[0]
                    for place, (low, high) in enumerate(self._unknowns) if low is None and high is None]
@@ -115,7 +115,7 @@ class Bar:
 
     def are_like_one(self):
         """Whether all bars are multiples of one."""
-        return len(self._rows) - rank_by_prime(self._equations()) <= 1
+        return len(self._rows) - rank_by_prime(self._columns_without_ends()) <= 1
 
     def found(self):
         """A short bar, None if none is found."""
@@ -137,7 +137,7 @@ class Bar:
                 lines.append(_line(weights, [1 if at == place else 0 for at in wide], False))
         gaps = [self._unknowns[place][0] - self._unknowns[place][1] for place in wide]
         lines.append(_line(total, gaps, True))
-        return Cone(lines, len(wide), self).found(units(many), self._equations())
+        return Cone(lines, len(wide), self).found(units(many), self._columns_without_ends())
 
     def told(self, vector):
         """The bar that has a vector's multipliers, None if it is long or none."""

@@ -12,9 +12,9 @@ class Chains:
         self._places = [None, *goods]
         self._conditions = conditions
         self._many = len(self._places)
-        self._sums = [{(place, place): 0 for place in self._places}]
+        self._least_sums = [{(place, place): 0 for place in self._places}]
         for _ in range(self._many):
-            self._sums.append(self._longer(self._sums[-1]))
+            self._least_sums.append(self._longer(self._least_sums[-1]))
 
     def _longer(self, sums):
         """The least sums of chains with one condition more at their beginning."""
@@ -35,13 +35,13 @@ class Chains:
         """Of the rings with the fewest conditions the least list; None without one."""
         for many in range(1, self._many + 1):
             for position, (one, other, most) in enumerate(self._conditions):
-                if (other, one) in self._sums[many - 1] and most + self._sums[many - 1][(other, one)] < 0:
+                if (other, one) in self._least_sums[many - 1] and most + self._least_sums[many - 1][(other, one)] < 0:
                     return self._least_list((one, one), many, -1)
         return None
 
     def tightest(self, first, second):
         """The least sum of the chains from one to another; None without a chain. Only where there is no ring."""
-        found = [sums[(first, second)] for sums in self._sums if (first, second) in sums]
+        found = [sums[(first, second)] for sums in self._least_sums if (first, second) in sums]
         return min(found) if len(found) > 0 else None
 
     def chain(self, first, second):
@@ -49,7 +49,7 @@ class Chains:
         least = self.tightest(first, second)
         if least is None:
             return None
-        counts = [many for many, sums in enumerate(self._sums) if sums.get((first, second), least + 1) == least]
+        counts = [many for many, sums in enumerate(self._least_sums) if sums.get((first, second), least + 1) == least]
         return self._least_list((first, second), counts[0], least)
 
     def _least_list(self, ends, many, most_sum):
@@ -58,8 +58,8 @@ class Chains:
         told, total = [], 0
         for left in reversed(range(many)):
             for position, (one, other, most) in enumerate(self._conditions):
-                if len(told) + left < many and one == place and (other, last) in self._sums[left]:
-                    if total + most + self._sums[left][(other, last)] <= most_sum:
+                if len(told) + left < many and one == place and (other, last) in self._least_sums[left]:
+                    if total + most + self._least_sums[left][(other, last)] <= most_sum:
                         told.append(position)
                         place, total = other, total + most
         return told

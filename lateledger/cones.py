@@ -82,10 +82,10 @@ def rank_by_prime(rows):
 class Line:
     """A sum of a vector's integers, and of some free numbers of at least 0, that is wanted to be at least 0."""
 
-    def __init__(self, weights, free, is_strict):
+    def __init__(self, numbers, free_numbers, is_strict):
         """Take the integers for the vector and for the free numbers, and whether the sum must be above 0."""
-        self.weights = weights
-        self.free = free
+        self.numbers = numbers
+        self.free_numbers = free_numbers
         self.is_strict = is_strict
 
 
@@ -126,7 +126,7 @@ class Cone:
         self._tries = self._tries - 1
         rows, wanted = [], []
         for line in self._lines:
-            weights = least_whole([dot(line.weights, vector) for vector in vectors] + line.free)
+            weights = least_whole([dot(line.numbers, vector) for vector in vectors] + line.free_numbers)
             if self._has_no_way(line, weights, len(vectors)):
                 return None
             room = sum([abs(part) for part in weights[:len(vectors)]])
@@ -153,7 +153,7 @@ class Cone:
         edge = [line for line, parts in zip(lines, support) if parts[0].sign > 0]
         if any([line.is_strict for line in edge]):
             return None
-        return self.found(vectors, [line.weights for line in edge])
+        return self.found(vectors, [line.numbers for line in edge])
 
     def _rounded(self, vectors, numbers, room):
         """The result of a sum of the vectors near the middle, with whole numbers of them."""

@@ -39,17 +39,17 @@ class Losses:
         self._losses = [-ratio_of(holdings.get(good, 0)) for good in self._goods]
         self._solver = Solver([(None, None) for _ in self._goods], rows, [self._losses])
         self._has_move = self._solver.bar() is None
-        self._direction = self._solver.way() if self._has_move else None
+        self._endless = self._solver.way() if self._has_move else None
 
     def outcome(self):
         """Which there is: a "ring", a "family" or a "cover"."""
         if not self._has_move:
             return "ring"
-        return "cover" if self._direction is None else "family"
+        return "cover" if self._endless is None else "family"
 
     def direction(self):
         """The dict of the direction in which is lost without end."""
-        return {good: number for good, number in zip(self._goods, self._direction)}
+        return {good: number for good, number in zip(self._goods, self._endless)}
 
     def cover(self):
         """The most that is lost."""
