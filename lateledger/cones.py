@@ -14,7 +14,7 @@ FEED = 32
 # Vectors of more bits have no numbers of at most 500 digits, but for what their numbers share.
 LONG_BITS = 1760
 # The work is bounded, so that it ends soon where there is no short vector.
-MOST_STEPS = 200000
+MOST_STEPS = 400000
 MOST_TRIES = 60
 ALIKE_BITS = 8
 

@@ -101,7 +101,7 @@ class Reduction:
         share = share - (rounded_share(share) << BITS)
         ahead = self._squares[at - 1]
         upright = shifted(self._squares[at], 2 * (self._shifts[at] - self._shifts[at - 1]))
-        return 4 * (upright + (share * share * ahead >> (2 * BITS))) >= 3 * ahead
+        return 8 * (upright + (share * share * ahead >> (2 * BITS))) >= 5 * ahead
 
     def _exchange(self, at):
         self._take_off(at, {at - 1: rounded_share(self._share(at, at - 1))})

@@ -2,6 +2,7 @@
 
 from lateledger.cones import Cone, Line, units
 from lateledger.ratios import Ratio, are_short, ratios_of, sum_of_products, whole_multiples
+from lateledger.solving import Solver
 from lateledger.spaces import Elimination
 from lateledger.systems import AT_MOST, EQUALS, do_solve
 
@@ -187,45 +188,43 @@ def shorter_best(unknowns, rows, aims, solver):
 
 
 def shorter_support(unknowns, rows, aims, values, support):
-    """The support of the values, or a short one if this is long and such is found, aim by aim."""
+    """The support of the values, or a short one if this is long and such is found, aim by aim.
+
+    Whatever parts for the aims ahead are taken, there are parts for the next one, as values that are best have duals.
+    """
     told = [list(parts) for parts in support]
-    for at, aim in enumerate(aims):
+    is_changed = False
+    for at in range(len(aims)):
         numbers = [parts[at] for parts in told]
-        if not are_short(numbers):
-            ends, lines, strict = _system_of_supports(unknowns, rows, aims, values, (told, at))
-            found = shorter(ends, lines, numbers, strict)
-            for parts, number in zip(told, found):
+        if is_changed or not are_short(numbers):
+            ends, lines = _system_of_supports(unknowns, rows, aims, values, [parts[:at] for parts in told])
+            if is_changed:
+                solver = Solver(ends, lines)
+                solver.bar()
+                numbers = solver.found()
+            for parts, number in zip(told, shorter(ends, lines, numbers)):
                 parts[at] = number
+            is_changed = True
     return [tuple(parts) for parts in told]
 
 
 def _system_of_supports(unknowns, rows, aims, values, known):
-    """The ends and rows of a system solved by just the parts for one aim with which the others are a support.
-
-    Told behind them are the rows that must stay below their bounds, so that the parts for later aims may stay.
-    """
-    support, at = known
-    ends, lines, strict = [], [], []
-    for place, ((weights, word, bound), parts) in enumerate(zip(rows, support)):
-        is_free = word == EQUALS or first_sign_of(parts[:at]) > 0
-        if not is_free and sum_of_products(weights, values).is_below(bound):
-            ends.append((Ratio(0), Ratio(0)))
+    """The ends and rows of a system solved by just the parts for the next aim that may stand behind the known parts."""
+    at = len(known[0]) if len(known) > 0 else 0
+    ends, lines = [], []
+    for (weights, word, bound), parts in zip(rows, known):
+        if word == EQUALS or first_sign_of(parts) > 0:
+            ends.append((None, None))
         else:
-            ends.append((None if is_free else Ratio(0), None))
-        if not is_free and first_sign_of(parts[at + 1:]) < 0:
-            strict.append(len(lines))
-            lines.append((_unit(len(rows), place, -1), AT_MOST, Ratio(0)))
+            is_loose = sum_of_products(weights, values).is_below(bound)
+            ends.append((Ratio(0), Ratio(0) if is_loose else None))
     for place, (low, high) in enumerate(unknowns):
-        weights, number = [row[0][place] for row in rows], Ratio.total([aims[at][place]])
-        gain = gain_of(rows, aims, support, place)
         is_high, is_low = values[place] == high, values[place] == low
-        if first_sign_of(gain[:at]) != 0 or (is_high and is_low):
+        if (is_high and is_low) or first_sign_of(gain_of(rows, aims[:at], known, place)) != 0:
             continue
-        later = first_sign_of(gain[at + 1:])
-        if (is_high and later < 0) or (is_low and later > 0):
-            strict.append(len(lines))
+        weights, number = [row[0][place] for row in rows], Ratio.total([aims[at][place]])
         if is_low:
-            lines.append((ratios_of([-weight for weight in weights]), AT_MOST, -number))
+            lines.append(([-weight for weight in weights], AT_MOST, -number))
         else:
             lines.append((weights, AT_MOST if is_high else EQUALS, number))
-    return ends, lines, strict
+    return ends, lines
