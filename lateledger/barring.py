@@ -5,11 +5,12 @@ from lateledger.ratios import Ratio, are_short, ratios_of, sum_of_products, whol
 from lateledger.solving import Solver, least_whole
 from lateledger.systems import AT_MOST
 
-# The search for few rows looks at so few only, and asks so often at most whether some rows have a solution: of more
-# rows together than those it would take long to ask that.
+# The search for few rows looks at so few only, and asks so often at most whether some rows have a solution; of many
+# rows together it takes long to ask that, so only so many more are tried with the few.
+FEW = 2
 MOST_FEW = 4
 MOST_ASKED = 1500
-MOST_KEPT = 6
+MORE_KEPT = 3
 
 
 def shorter_bar(unknowns, rows, paper):
@@ -19,15 +20,22 @@ def shorter_bar(unknowns, rows, paper):
     used = [place for place, number in enumerate(paper[0]) if number.sign != 0]
     # The paper's multipliers are integers; without what they share, its sums may be short.
     found = Bar(unknowns, rows, used).told(least_whole([paper[0][place].top for place in used]))
+    quarrel = Quarrel(unknowns, rows)
+    # What takes less work goes first.
+    if found is None:
+        found = _by_few(unknowns, rows, quarrel.fewest(FEW))
     if found is None:
         found = _by_rows(unknowns, rows, used)
     if found is None:
-        few = Quarrel(unknowns, rows).fewest()
-        if few is not None:
-            found = Bar(unknowns, rows, few).found()
+        found = _by_few(unknowns, rows, quarrel.fewest(MOST_FEW))
     if found is None and len(used) < len(rows):
         found = _by_rows(unknowns, rows, list(range(len(rows))))
     return paper if found is None else found
+
+
+def _by_few(unknowns, rows, places):
+    """A short bar by the few rows that were found, None if none is found."""
+    return None if places is None else Bar(unknowns, rows, places).found()
 
 
 def _by_rows(unknowns, rows, places):
@@ -56,22 +64,25 @@ class Quarrel:
         self._unknowns = unknowns
         self._rows = rows
         self._asked = 0
-
-    def fewest(self):
-        """The positions of the fewest rows that have no solution; None if they are many, or the work too much."""
         # Each set is of rows outside of some that have a solution: one of it is in all rows that have none.
-        sets = []
+        self._sets = []
+
+    def fewest(self, most):
+        """The positions of the fewest rows, at most so many, that have no solution.
+
+        None if there are none, or the work is too much.
+        """
         while self._asked < MOST_ASKED:
             chosen = None
-            for many in range(MOST_FEW + 1):
+            for many in range(most + 1):
                 if chosen is None:
-                    chosen = hitting(sets, many)
+                    chosen = hitting(self._sets, many)
             if chosen is None:
                 return None
             values = self._solution(chosen)
             if values is None:
                 return sorted(chosen)
-            sets = sorted(sets + [self._left_by(chosen, values)], key=len)
+            self._sets = sorted(self._sets + [self._left_by(chosen, values)], key=len)
         return None
 
     def _solution(self, places):
@@ -85,7 +96,7 @@ class Quarrel:
         """The rows that some values do not keep that keep the chosen ones, and as many others as is tried."""
         kept = list(chosen)
         for place, row in enumerate(self._rows):
-            if place not in chosen and len(kept) < MOST_KEPT and not _is_kept(row, values):
+            if len(kept) < len(chosen) + MORE_KEPT and place not in chosen and not _is_kept(row, values):
                 found = self._solution(kept + [place])
                 if found is not None:
                     kept, values = kept + [place], found

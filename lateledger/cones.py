@@ -17,6 +17,7 @@ LONG_BITS = 1760
 MOST_STEPS = 400000
 MOST_TRIES = 60
 ALIKE_BITS = 8
+ROUGH_BITS = 160
 
 
 class Feeder:
@@ -124,24 +125,36 @@ class Cone:
         if self._tries == 0:
             return None
         self._tries = self._tries - 1
-        rows, wanted = [], []
+        sums, wanted = [], []
         for line in self._lines:
-            weights = least_whole([dot(line.numbers, vector) for vector in vectors] + line.free_numbers)
-            if self._has_no_way(line, weights, len(vectors)):
+            numbers = least_whole([dot(line.numbers, vector) for vector in vectors] + line.free_numbers)
+            if self._has_no_way(line, numbers, len(vectors)):
                 return None
-            room = sum([abs(part) for part in weights[:len(vectors)]])
-            if room > 0:
-                rows.append((ratios_of([-part for part in weights] + [room]), AT_MOST, Ratio(0)))
+            if any([part != 0 for part in numbers[:len(vectors)]]):
+                sums.append(numbers)
                 wanted.append(line)
-        ends = [(Ratio(-1), Ratio(1)) for _ in vectors] + [(Ratio(0), None) for _ in range(self._many_free)]
-        aim = ratios_of([0 for _ in ends] + [1])
-        solver = Solver(ends + [(Ratio(0), Ratio(1))], rows, [aim])
-        if solver.bar() is not None or solver.way() is not None:
-            return None
-        found = solver.found()
-        if found[-1].sign > 0:
-            return self._rounded(vectors, found[:len(vectors)], found[-1])
-        return self._on_the_edge(vectors, wanted, solver.support())
+        # Leading bits are enough to find the middle of a wide cone, and what is found is judged.
+        rough = self._middle([cut_to(numbers, ROUGH_BITS) for numbers in sums], len(vectors))
+        told = self._rounded(vectors, rough.found())
+        if told is None:
+            exact = self._middle(sums, len(vectors))
+            if exact.found()[-1].sign == 0:
+                return self._on_the_edge(vectors, wanted, exact.support())
+            told = self._rounded(vectors, exact.found())
+        return told
+
+    def _middle(self, sums, many):
+        """A Solver that stands in the middle of a cone, where all sums are above 0, if there is such a place."""
+        rows = []
+        for numbers in sums:
+            room = sum([abs(part) for part in numbers[:many]])
+            rows.append((ratios_of([-part for part in numbers] + [room]), AT_MOST, Ratio(0)))
+        ends = [(Ratio(-1), Ratio(1)) for _ in range(many)] + [(Ratio(0), None) for _ in range(self._many_free)]
+        solver = Solver(ends + [(Ratio(0), Ratio(1))], rows, [ratios_of([0 for _ in ends] + [1])])
+        # Nothing but 0 for all is always there, and the room is at most 1.
+        solver.bar()
+        solver.way()
+        return solver
 
     def _has_no_way(self, line, weights, many):
         if not line.is_strict:
@@ -155,8 +168,11 @@ class Cone:
             return None
         return self.found(vectors, [line.numbers for line in edge])
 
-    def _rounded(self, vectors, numbers, room):
-        """The result of a sum of the vectors near the middle, with whole numbers of them."""
+    def _rounded(self, vectors, found):
+        """The result of a sum of the vectors near the middle, with whole numbers of them; None without room."""
+        numbers, room = found[:len(vectors)], found[-1]
+        if room.sign == 0:
+            return None
         enough = room.bottom // (2 * room.top) + 1
         scale = 1
         while scale.bit_length() <= LONG_BITS:
@@ -174,6 +190,12 @@ class Cone:
         if all([part == 0 for part in vector]):
             return None
         return self._judge.told(vector)
+
+
+def cut_to(numbers, bits):
+    """The integers without what so many leading bits of the greatest one do not reach."""
+    left = max(most_bits(numbers) - bits, 0)
+    return [part >> left for part in numbers]
 
 
 def nearest(top, bottom):
