@@ -4,7 +4,7 @@ The vectors themselves are exact: only sums of integer multiples of each other a
 reckoned with leading bits alone is which ones, so it hangs on nothing but how short they come out.
 """
 
-BITS = 256
+BITS = 128
 
 
 def dot(one, other):

@@ -4,7 +4,7 @@ from lateledger.cones import Cone, Line, units
 from lateledger.ratios import Ratio, are_short, ratios_of, sum_of_products, whole_multiples
 from lateledger.solving import Solver
 from lateledger.spaces import Elimination
-from lateledger.systems import AT_MOST, EQUALS, do_solve
+from lateledger.systems import AT_MOST, EQUALS, do_solve, lies_within
 
 
 def shorter(unknowns, rows, values, strict=()):
@@ -20,6 +20,8 @@ def shorter(unknowns, rows, values, strict=()):
         if not are_short([told[place] for place in places]):
             part = Part(unknowns, rows, values, places, strict)
             found = part.found()
+            if found is None:
+                found = part.found_by_fixing()
             if found is not None:
                 for place, number in zip(places, found):
                     told[place] = number
@@ -52,6 +54,13 @@ def _parted(many, rows, fixed):
         if len(joined) > 0:
             parts = apart + [sorted(joined)]
     return parts
+
+
+def _plain_values(ends):
+    """The values of an unknown with these ends that are plain: 0, if it may have it, and the ends."""
+    low, high = ends
+    told = [number for number in (low, high) if number is not None]
+    return [Ratio(0)] + told if lies_within(0, low, high) else told
 
 
 class Part:
@@ -91,19 +100,42 @@ class Part:
         if vector[-1] <= 0:
             return None
         values = [Ratio(part, vector[-1]) for part in vector[:-1]]
-        if not are_short(values) or not do_solve(self._ends, self._rows, values):
-            return None
+        return values if are_short(values) and self._is_solved_by(values) else None
+
+    def _is_solved_by(self, values):
+        if not do_solve(self._ends, self._rows, values):
+            return False
         for (weights, _, bound), is_strict in zip(self._rows, self._strict):
             if is_strict and not sum_of_products(weights, values).is_below(bound):
-                return None
-        return values
+                return False
+        return True
+
+    def found_by_fixing(self):
+        """Short values found by keeping one unknown after the other at 0 or at an end, None if none are found.
+
+        Those in most rows go first: without them the rows may hang together no more.
+        """
+        counts = [len([row for row in self._rows if row[0][place].sign != 0]) for place in range(len(self._ends))]
+        ends = list(self._ends)
+        for _, place in sorted([(-count, place) for place, count in enumerate(counts)]):
+            for number in _plain_values(ends[place]):
+                tried = ends[:place] + [(number, number)] + ends[place + 1:]
+                solver = Solver(tried, self._rows)
+                if solver.bar() is None:
+                    ends = tried
+                    values = solver.found()
+                    if are_short(values) and self._is_solved_by(values):
+                        return values
+                    break
+        return None
 
 
 def shorter_direction(unknowns, rows, aims, direction):
     """The direction of a way, or a short one if this is long and such is found."""
     if are_short(direction):
         return direction
-    for many in range(len(aims)):
+    gaining = [many for many, aim in enumerate(aims) if sum_of_products(aim, direction).sign > 0][:1]
+    for many in gaining + [many for many in range(len(aims)) if many not in gaining]:
         found = Direction(unknowns, rows, aims[:many], aims[many]).found()
         if found is not None:
             return found
