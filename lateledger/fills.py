@@ -121,5 +121,4 @@ def better_fills(deals, fills):
 
 def brings(deals, names):
     """What some orders bring: by how much the greatest gain is less without them."""
-    check_round(deals)
     return greatest_gain(deals) - greatest_gain(deals.without(names))

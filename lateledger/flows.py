@@ -64,7 +64,7 @@ def _wrong_place(clearing, some):
     """The first place with no house of the clearing, or with one that stands ahead; None without one."""
     houses = clearing.houses()
     for position, house in enumerate(some):
-        if not isinstance(house, str) or house not in houses or house in some[:position]:
+        if house not in houses or house in some[:position]:
             return position
     return None
 

@@ -3,7 +3,6 @@
 from lateledger.dealing import fair_weights_of, gain_of_deal, sides_of, values_of_quotes
 from lateledger.errors import InvalidDeal, InvalidQuotes, InvalidWeights, TooMany
 from lateledger.fills import are_of_just
-from lateledger.futures import check_bundle
 from lateledger.ratios import Ratio, is_number, ratio_of, sum_of_products
 from lateledger.words import is_bundle, is_list, is_pair, is_triple
 
@@ -112,7 +111,6 @@ def outcome(futures, quotes, deal):
 def value_of(futures, weights, bundle):
     """The value of a bundle by weights."""
     check_weights(futures, weights)
-    check_bundle(bundle)
     return value_by(futures, weights, bundle)
 
 

@@ -1,6 +1,6 @@
 """Prices of a round: which support fills, which are told, and what is traded at them."""
 
-from lateledger.errors import InvalidGood, InvalidPrices, UnknownOrder
+from lateledger.errors import InvalidGood, InvalidPrices
 from lateledger.fills import are_fills, are_of_just, check_fills, check_round, first_fills
 from lateledger.ratios import Ratio, ratio_of, ratios_of, sum_of_products
 from lateledger.solving import Solver
@@ -35,8 +35,6 @@ def surplus(deals, prices, name):
     """The limit of an order less what its bundle costs."""
     check_round(deals)
     _check_prices(deals, prices)
-    if name not in deals:
-        raise UnknownOrder(name)
     return _surplus(deals[name], prices)
 
 
@@ -117,7 +115,7 @@ def price_span(deals, good):
     """The tuple of the least and the greatest price of a good in prices that support the best fills."""
     check_round(deals)
     goods = deals.goods()
-    if not isinstance(good, str) or good not in goods:
+    if good not in goods:
         raise InvalidGood(good)
     return _span_by([(None, None) for _ in goods], _rows_of_support(deals), goods.index(good))
 

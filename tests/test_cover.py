@@ -125,6 +125,9 @@ class CoverTest(Checks, unittest.TestCase):
                       (paper[0], [1, 2, 1, 0]), (paper[0], {0: 0, 1: 1, 2: 1, 3: 0})):
             self.assert_bool(is_cover_paper(TWO, ONE, wrong), False)
         self.assert_bool(is_cover_paper(RINGED, ONE, (paper[0], [0, 1, 1, 0, 0])), False)
+        twice = Moves(["x"], [(None, "x", 2), (None, "x", 2), ("x", None, 1)])
+        for weights, wanted in (([1, 0, 0], True), ([Ratio(1, 3), Ratio(2, 3), 0], True), ([2, -1, 0], False), ([0, 0, 0], False)):
+            self.assert_bool(is_cover_paper(twice, {"x": 1}, ({"x": -2}, weights)), wanted)
         source = Random(414)
         for _ in range(150):
             moves = some_moves(source, 2, 4, 2)

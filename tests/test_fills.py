@@ -94,6 +94,17 @@ class FillsTest(Checks, unittest.TestCase):
         self.check_round(deals)
         self.assert_same(first_fills(deals)["x"], Ratio(1))
 
+    def test_orders_that_may_stand_for_each_other(self):
+        orders = {"x": Order("a", {"tea": -1}, -4, 3), "y": Order("b", {"tea": -1}, -4, 3), "z": Order("c", {"tea": 1}, 9, 3),
+                  "u": Order("d", {"tea": 2}, 18, 1)}
+        deals = Round(orders)
+        self.check_round(deals)
+        self.assert_same(fill_span(deals, "x"), (Ratio(2), Ratio(3)))
+        deals = deals.without(["u"])
+        self.check_round(deals)
+        for name in ("x", "y"):
+            self.assert_same(fill_span(deals, name), (Ratio(0), Ratio(3)))
+
     def test_great_numbers(self):
         source = Random(304)
         deals = Round({name: Order("a", {good: source.randint(-GREAT, GREAT) for good in ("a", "b", "c", "d")},

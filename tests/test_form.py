@@ -199,6 +199,20 @@ class FormTest(unittest.TestCase):
         self.assert_none(one for one in properties + others if one in methods or one in METHODS)
         self.assertEqual(len(set(others)), len(others))
 
+    def test_no_attribute_has_the_name_of_a_method(self):
+        methods, stored = set(), set()
+        for _, node in self.all_of(ast.ClassDef):
+            methods.update(part.name for part in node.body if isinstance(part, ast.FunctionDef))
+            stored.update(part.attr for part in ast.walk(node) if isinstance(part, ast.Attribute)
+                          and isinstance(part.ctx, ast.Store))
+        self.assert_none(methods & stored)
+
+    def test_what_is_reversed(self):
+        """A package with __getitem__ reverses only ranges, and what is plainly a list."""
+        for name, node in self.all_of(ast.Call):
+            if isinstance(node.func, ast.Name) and node.func.id == "reversed":
+                self.assertEqual(node.args[0].func.id, "range", (name, node.lineno))
+
     def test_functions_are_explained(self):
         """Each public function and method has a docstring, but for those of Python's own names."""
         self.assert_none((name, node.name) for name, node in self.all_of(ast.FunctionDef)

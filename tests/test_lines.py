@@ -139,6 +139,10 @@ class LinesTest(Checks, unittest.TestCase):
         self.assert_bool(does_fit(chain, [1, 1]), True)
         self.assert_bool(does_fit(chain, [1, 0]), False)
         self.assert_bool(does_fit(chain, [2, 2]), False)
+        owed = Clearing({"a": 3, "b": -2, "c": -1}, [("c", "b", 1, 0), ("b", "a", 1, 0)])
+        self.assert_bool(does_fit(owed, [0, 0]), True)
+        self.assert_bool(does_fit(owed, [0, 1]), False)
+        self.assert_bool(does_fit(owed, [1, 0]), False)
 
 
 if __name__ == "__main__":

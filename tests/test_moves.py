@@ -145,6 +145,11 @@ class MovesTest(Checks, unittest.TestCase):
                                                [0, Ratio(1)], [0, [1]]]:
             self.assert_bool(is_ring(RINGED, wrong), False)
         self.assert_bool(is_ring(TWO, [0, 1]), False)
+        four = Moves(["x", "y", "z"], [("x", "y", 0), ("y", "z", 0), ("z", None, 0), (None, "x", -1), ("z", "x", -1)])
+        for told in ([0, 1, 4], [1, 4, 0], [0, 1, 2, 3], [3, 0, 1, 2], [0, 1, 4, 0, 1, 2, 3]):
+            self.assert_bool(is_ring(four, told), True)
+        for told in ([0, 1, 2], [0, 1, 3], [0, 4, 1], [1, 2, 3], [0, 1, 4, 1], [4, 0, 4, 0]):
+            self.assert_bool(is_ring(four, told), False)
 
     def test_broken_and_is_move(self):
         source = Random(405)

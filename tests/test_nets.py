@@ -77,6 +77,21 @@ class NetsTest(Checks, unittest.TestCase):
                     if wanted and is_greatest(hall, payments):
                         self.assert_bool(is_cheapest(hall, payments), True)
 
+    def test_potentials_a_little_otherwise(self):
+        source, counts = Random(345), [0, 0]
+        for _ in range(60):
+            hall = some_clearing(source)
+            payments = first(hall)
+            told = potentials(hall, payments)
+            for house in [*hall.houses(), 1, 2]:
+                for part in (-1, Ratio(-1, 2), Ratio(1, 2), 1):
+                    places = {**told[0], house: told[0][house] + part} if house in told[0] else told[0]
+                    other = (places, *[number + part if at == house else number for at, number in enumerate(told) if at > 0])
+                    wanted = are_potentials_by_sums(hall, payments, other)
+                    counts[wanted] += 1
+                    self.assert_bool(are_potentials(hall, payments, other), wanted)
+        self.assertGreater(min(counts), 100)
+
     def test_rings_that_cost_nothing(self):
         self.check_hall(RING, 1)
         self.assert_same(first(RING), [Ratio(1), Ratio(0), Ratio(0), Ratio(0)])

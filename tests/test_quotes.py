@@ -156,12 +156,12 @@ class QuotesTest(Checks, unittest.TestCase):
     def test_quotes_that_bind_all_but_one_weight(self):
         """No corner is short here, but weights that the quotes leave free are."""
         source = Random(444)
-        goods, names = ["a", "b", "c", "d"], list("abcdefgh")
+        goods, names = list("abcdefgh"), list("abcdefgh")
         futures = Futures({name: {good: source.randint(0, GREAT) for good in goods} for name in names})
         quotes = []
-        for at in range(5):
+        for _ in range(7):
             bundle = {good: source.randint(-GREAT, GREAT) for good in goods}
-            value = sum(futures.all_worths(bundle).values())
+            value = Ratio(1, source.randint(1, GREAT)) + sum(futures.all_worths(bundle).values())
             quotes.append((bundle, value, value))
         self.assert_bool(self.check_quotes(futures, quotes), True)
         self.assert_told_short(fair_weights(futures, quotes))
