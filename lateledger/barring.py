@@ -1,7 +1,7 @@
 """Short bars: by few rows that quarrel, or by short multipliers of many rows."""
 
 from lateledger.cones import Cone, Line, rank_by_prime, units
-from lateledger.ratios import Ratio, are_short, ratios_of, sum_of_products, whole_multiples
+from lateledger.ratios import Ratio, are_short, ratios_of, shared_factor, sum_of_products, whole_multiples
 from lateledger.solving import Solver, least_whole
 from lateledger.systems import AT_MOST
 
@@ -18,19 +18,23 @@ def shorter_bar(unknowns, rows, paper):
     if all([are_short(numbers) for numbers in paper]):
         return paper
     used = [place for place, number in enumerate(paper[0]) if number.sign != 0]
-    # The paper's multipliers are integers; without what they share, its sums may be short.
-    found = Bar(unknowns, rows, used).told(least_whole([paper[0][place].top for place in used]))
+    found = Bar(unknowns, rows, used).like(paper[0])
+    if found is None and not Bar(unknowns, rows, list(range(len(rows)))).are_like_one():
+        found = _by_search(unknowns, rows, used)
+    return paper if found is None else found
+
+
+def _by_search(unknowns, rows, used):
+    """A short bar, None if none is found. What takes less work goes first."""
     quarrel = Quarrel(unknowns, rows)
-    # What takes less work goes first.
-    if found is None:
-        found = _by_few(unknowns, rows, quarrel.fewest(FEW))
+    found = _by_few(unknowns, rows, quarrel.fewest(FEW))
     if found is None:
         found = _by_rows(unknowns, rows, used)
     if found is None:
         found = _by_few(unknowns, rows, quarrel.fewest(MOST_FEW))
     if found is None and len(used) < len(rows):
         found = _by_rows(unknowns, rows, list(range(len(rows))))
-    return paper if found is None else found
+    return found
 
 
 def _by_few(unknowns, rows, places):
@@ -116,7 +120,9 @@ class Bar:
         self._unknowns = unknowns
         self._places = places
         self._many = len(rows)
-        self._rows = [rows[place] for place in places]
+        # Vectors count rows without what their weights share: it is among these that short ones are looked for.
+        self._factors = [shared_factor(rows[place][0]) for place in places]
+        self._rows = [divided_row(rows[place], factor) for place, factor in zip(places, self._factors)]
 
     def _columns_without_ends(self):
         """The integers by which multipliers come to 0 at the unknowns without ends."""
@@ -150,6 +156,11 @@ class Bar:
         lines.append(_line(total, gaps, True))
         return Cone(lines, len(wide), self).found(units(many), self._columns_without_ends())
 
+    def like(self, multipliers):
+        """The bar with these multipliers of all rows, but for what they share; None if it is long."""
+        own = [multipliers[place] * factor for place, factor in zip(self._places, self._factors)]
+        return self.told(least_whole(whole_multiples(own)[0]))
+
     def told(self, vector):
         """The bar that has a vector's multipliers, None if it is long or none."""
         numbers = ratios_of(vector)
@@ -164,12 +175,18 @@ class Bar:
         if total.sign >= 0 or any([row[1] == AT_MOST and part < 0 for row, part in zip(self._rows, vector)]):
             return None
         multipliers = [Ratio(0) for _ in range(self._many)]
-        for place, number in zip(self._places, numbers):
-            multipliers[place] = number
+        for place, number, factor in zip(self._places, numbers, self._factors):
+            multipliers[place] = number.over(factor)
         lows = [left if left.sign > 0 else Ratio(0) for left in sums]
         highs = [-left if left.sign < 0 else Ratio(0) for left in sums]
         paper = (multipliers, lows, highs)
         return paper if all([are_short(part) for part in paper]) else None
+
+
+def divided_row(row, factor):
+    """A row with all its numbers divided by a Ratio above 0."""
+    weights, word, bound = row
+    return ([weight.over(factor) for weight in weights], word, bound.over(factor))
 
 
 def _line(weights, free, is_strict):

@@ -45,6 +45,16 @@ def whole_multiples(numbers):
     return [number.top * (scale // number.bottom) for number in numbers], scale
 
 
+def shared_factor(numbers):
+    """What all tops of some Ratios share over what all their bottoms share; 1 for those that are all 0."""
+    top, bottom = 0, 0
+    for number in numbers:
+        if number.sign != 0:
+            top = gcd(top, number.top)
+            bottom = gcd(bottom, number.bottom)
+    return Ratio(1) if top == 0 else Ratio(top, bottom)
+
+
 def are_short(numbers):
     """Whether all Ratios have tops and bottoms of no more than 500 digits."""
     return all([max(abs(number.top), number.bottom).bit_length() <= MOST_BITS for number in numbers])

@@ -1,8 +1,8 @@
 """Short numbers: where those of the corner that was found are long, short ones are looked for elsewhere."""
 
 from lateledger.cones import Cone, Line, units
-from lateledger.ratios import Ratio, are_short, ratios_of, sum_of_products, whole_multiples
-from lateledger.solving import Solver
+from lateledger.ratios import Ratio, are_short, ratios_of, shared_factor, sum_of_products, whole_multiples
+from lateledger.solving import Solver, least_whole
 from lateledger.spaces import Elimination
 from lateledger.systems import AT_MOST, EQUALS, do_solve, lies_within
 
@@ -63,11 +63,22 @@ def _plain_values(ends):
     return [Ratio(0)] + told if lies_within(0, low, high) else told
 
 
+def _factors_of(rows, many):
+    """For each of so many unknowns what its weights in the rows share."""
+    return [shared_factor([row[at] for row in rows]) for at in range(many)]
+
+
+def _divided(numbers, factors):
+    return [number.over(factor) for number, factor in zip(numbers, factors)]
+
+
 class Part:
-    """Some unknowns of a system, as integers over one bottom, which stands behind them."""
+    """Some unknowns of a system, as integers over one bottom, which stands behind them.
+
+    They are counted by what their weights share: it is among these numbers that short ones are looked for.
+    """
 
     def __init__(self, unknowns, rows, values, places, strict):
-        self._ends = [unknowns[place] for place in places]
         self._rows, self._strict = [], []
         for at, (weights, word, bound) in enumerate(rows):
             own = [weights[place] for place in places]
@@ -75,6 +86,11 @@ class Part:
                 others = sum_of_products(weights, values) - sum_of_products(own, [values[place] for place in places])
                 self._rows.append((own, word, bound - others))
                 self._strict.append(at in strict)
+        self._factors = _factors_of([row[0] for row in self._rows], len(places))
+        self._rows = [(_divided(own, self._factors), word, bound) for own, word, bound in self._rows]
+        ends = [unknowns[place] for place in places]
+        self._ends = [(None if low is None else low * factor, None if high is None else high * factor)
+                      for (low, high), factor in zip(ends, self._factors)]
 
     def found(self):
         """Short values of the unknowns, None if none are found."""
@@ -99,8 +115,12 @@ class Part:
         """The values that a vector stands for, None if they are long or do not solve the rows."""
         if vector[-1] <= 0:
             return None
-        values = [Ratio(part, vector[-1]) for part in vector[:-1]]
-        return values if are_short(values) and self._is_solved_by(values) else None
+        return self._judged([Ratio(part, vector[-1]) for part in vector[:-1]])
+
+    def _judged(self, numbers):
+        """The values of the unknowns that are counted so, None if they are long or do not solve the rows."""
+        values = _divided(numbers, self._factors)
+        return values if are_short(values) and self._is_solved_by(numbers) else None
 
     def _is_solved_by(self, values):
         if not do_solve(self._ends, self._rows, values):
@@ -123,8 +143,8 @@ class Part:
                 solver = Solver(tried, self._rows)
                 if solver.bar() is None:
                     ends = tried
-                    values = solver.found()
-                    if are_short(values) and self._is_solved_by(values):
+                    values = self._judged(solver.found())
+                    if values is not None:
                         return values
                     break
         return None
@@ -136,7 +156,10 @@ def shorter_direction(unknowns, rows, aims, direction):
         return direction
     gaining = [many for many, aim in enumerate(aims) if sum_of_products(aim, direction).sign > 0][:1]
     for many in gaining + [many for many in range(len(aims)) if many not in gaining]:
-        found = Direction(unknowns, rows, aims[:many], aims[many]).found()
+        ways = Direction(unknowns, rows, aims[:many], aims[many])
+        found = ways.like(direction)
+        if found is None:
+            found = ways.found()
         if found is not None:
             return found
     return direction
@@ -149,12 +172,17 @@ class Direction:
         self._many = len(unknowns)
         self._places = [place for place, (low, high) in enumerate(unknowns) if low is None or high is None]
         self._ends = [unknowns[place] for place in self._places]
-        self._rows = [(self._whole(weights), word) for weights, word, _ in rows]
-        self._rows = self._rows + [(self._whole(ratios_of(other)), EQUALS) for other in ahead]
-        self._aim = self._whole(ratios_of(aim))
+        told = [(weights, word) for weights, word, _ in rows] + [(ratios_of(other), EQUALS) for other in ahead]
+        told.append((ratios_of(aim), AT_MOST))
+        told = [([weights[place] for place in self._places], word) for weights, word in told]
+        self._factors = _factors_of([weights for weights, _ in told], len(self._places))
+        told = [(whole_multiples(_divided(weights, self._factors))[0], word) for weights, word in told]
+        self._rows, self._aim = told[:-1], told[-1][0]
 
-    def _whole(self, weights):
-        return whole_multiples([weights[place] for place in self._places])[0]
+    def like(self, direction):
+        """The direction, but for what its numbers share; None if it is long, or gains by another aim."""
+        numbers = [direction[place] * factor for place, factor in zip(self._places, self._factors)]
+        return self.told(least_whole(whole_multiples(numbers)[0]))
 
     def found(self):
         """A short direction, None if none is found."""
@@ -178,11 +206,12 @@ class Direction:
         numbers = ratios_of(vector)
         ends = [(None if low is None else Ratio(0), None if high is None else Ratio(0)) for low, high in self._ends]
         rows = [(ratios_of(weights), word, Ratio(0)) for weights, word in self._rows]
-        if not are_short(numbers) or not do_solve(ends, rows, numbers):
+        values = _divided(numbers, self._factors)
+        if not are_short(values) or not do_solve(ends, rows, numbers):
             return None
         if sum_of_products(self._aim, numbers).sign <= 0:
             return None
-        told = {place: number for place, number in zip(self._places, numbers)}
+        told = {place: number for place, number in zip(self._places, values)}
         return [told.get(place, Ratio(0)) for place in range(self._many)]
 
 

@@ -112,3 +112,30 @@ def some_way(source):
     if Ratio.total([one * part for one, part in zip(aim, direction)]).sign <= 0:
         aim = direction
     return System(ends, rows), [[0] * many, aim], ([0] * many, direction)
+
+
+def some_barred_by_all(source):
+    """24 rows of small numbers, each times a long one of its own, and a bar that takes them all."""
+    many = source.randint(6, 16)
+    rows = [[source.randint(-9, 9) for _ in range(many + 1)] for _ in range(23)]
+    often = [source.choice([1, 1, 2]) for _ in rows]
+    last = [-sum(number * row[at] for number, row in zip(often, rows)) for at in range(many + 1)]
+    rows, often = rows + [last[:-1] + [last[-1] - 1]], often + [1]
+    scales = [Ratio(source.randint(10 ** 24, 10 ** 26), source.choice([1, source.randint(10 ** 20, 10 ** 26)])) for _ in rows]
+    told = [([scale * weight for weight in row[:-1]], "at most", scale * row[-1]) for scale, row in zip(scales, rows)]
+    multipliers = [Ratio(number).over(scale) for number, scale in zip(often, scales)]
+    return System([(None, None)] * many, told), (multipliers, [0] * many, [0] * many)
+
+
+def some_solved_by_parts(source):
+    """Rows of small numbers, those of each unknown times a long one of its own, and short values that solve them."""
+    many = source.randint(8, 16)
+    scales = [source.randint(10 ** 24, 10 ** 26) for _ in range(many)]
+    values = [source.randint(-5, 5) for _ in range(many)]
+    rows = []
+    for _ in range(source.randint(5, many - 3)):
+        weights = [source.randint(-1000, 1000) for _ in range(many)]
+        bound = sum(weight * number for weight, number in zip(weights, values))
+        rows.append(([weight * scale for weight, scale in zip(weights, scales)], "equals", bound))
+    ends = [source.choice([(None, None), (0, None) if number >= 0 else (None, 0)]) for number in values]
+    return System(ends, rows), [Ratio(number, scale) for number, scale in zip(values, scales)]

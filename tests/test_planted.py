@@ -6,7 +6,7 @@ from random import Random
 from lateledger.best import bar, best, is_bar, is_best, is_way, solution, way
 from lateledger.systems import System
 from tests.linear import bars, leads, solves, supports
-from tests.planted import great, some_barred, some_best, some_solved, some_way
+from tests.planted import great, some_barred, some_barred_by_all, some_best, some_solved, some_solved_by_parts, some_way
 from tests.support import GREAT, Checks
 
 
@@ -34,6 +34,19 @@ class PlantedTest(Checks, unittest.TestCase):
             self.assert_bool(is_bar(system, short), True)
             told = bar(system)
             self.assertTrue(bars(system, told))
+            self.assert_told_short(told)
+
+    def test_rows_and_unknowns_times_long_numbers(self):
+        for seed in range(6):
+            system, short = some_barred_by_all(Random(seed))
+            self.assert_bool(is_bar(system, short), True)
+            told = bar(system)
+            self.assertTrue(bars(system, told))
+            self.assert_told_short(told)
+            system, values = some_solved_by_parts(Random(seed))
+            self.assertTrue(solves(system, values))
+            told = solution(system)
+            self.assertTrue(solves(system, told))
             self.assert_told_short(told)
 
     def test_ways(self):
