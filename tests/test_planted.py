@@ -2,10 +2,11 @@
 
 import unittest
 from random import Random
+from unittest import mock
 
-from lateledger.best import bar, best, is_bar, is_best, is_way, solution, way
+from lateledger.best import bar, best, is_bar, is_best, is_way, outcome, solution, way
 from lateledger.systems import System
-from tests.linear import bars, leads, solves, supports
+from tests.linear import bars, grid_values, leads, solves, some_aims, some_system, supports
 from tests.planted import great, some_barred, some_barred_by_all, some_best, some_solved, some_solved_by_parts, some_way
 from tests.support import GREAT, Checks
 
@@ -100,6 +101,44 @@ class PlantedTest(Checks, unittest.TestCase):
         told = best(system, aims)
         self.assertTrue(supports(system, aims, *told))
         self.assert_told_short(told)
+
+    def test_small_systems_where_short_means_one_digit(self):
+        """All that looks for short numbers, on systems of all kinds; what it tells must be right, and mostly be short."""
+        source, missed = Random(10), 0
+        with mock.patch("lateledger.ratios.MOST_BITS", 3):
+            for _ in range(250):
+                system = some_system(source, 4, 6, 6)
+                aims = some_aims(source, len(system), 5)
+                if outcome(system, aims) == "bar":
+                    self.assertTrue(bars(system, bar(system)))
+                    continue
+                values = solution(system)
+                self.assertTrue(solves(system, values))
+                if max(abs(part.top) for part in values) > 7 or max(part.bottom for part in values) > 7:
+                    missed += any(True for _ in grid_values(system, 7))
+                if outcome(system, aims) == "way":
+                    self.assertTrue(leads(system, aims, *way(system, aims)))
+                else:
+                    self.assertTrue(supports(system, aims, *best(system, aims)))
+        self.assertLess(missed, 5)
+
+    def test_small_systems_with_many_aims(self):
+        """Values at 0, and rows that all touch it: supports with parts of both signs behind those above 0."""
+        source, counts = Random(11), [0, 0]
+        with mock.patch("lateledger.ratios.MOST_BITS", 2):
+            for _ in range(120):
+                many = source.randint(2, 4)
+                rows = [([source.randint(-5, 5) for _ in range(many)], source.choice(["at most"] * 4 + ["equals"]), 0)
+                        for _ in range(source.randint(many - 1, many + 2))]
+                ends = [source.choice([(None, None), (0, None), (None, 0), (0, 0), (-1, 1)]) for _ in range(many)]
+                system, height = System(ends, rows), source.randint(2, 3)
+                often = [[source.randint(0, 2) for _ in rows]] + [[source.randint(-3, 3) for _ in rows] for _ in range(height - 1)]
+                aims = [[sum(number * row[0][at] for number, row in zip(parts, rows)) for at in range(many)] for parts in often]
+                if outcome(system, aims) == "best":
+                    told = best(system, aims)
+                    self.assertTrue(supports(system, aims, *told))
+                    counts[any(number.sign < 0 for parts in told[1] for number in parts)] += 1
+        self.assertGreater(min(counts), 10)
 
 
 if __name__ == "__main__":
