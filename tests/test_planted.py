@@ -122,6 +122,25 @@ class PlantedTest(Checks, unittest.TestCase):
                     self.assertTrue(supports(system, aims, *best(system, aims)))
         self.assertLess(missed, 5)
 
+    def test_small_ways_and_bars(self):
+        """Directions and multipliers of more than one digit, for which shorter ones are looked for."""
+        source, counts = Random(12), [0, 0]
+        with mock.patch("lateledger.ratios.MOST_BITS", 2):
+            for _ in range(300):
+                many = source.randint(2, 5)
+                rows = [([source.randint(-6, 6) for _ in range(many)], source.choice(["at most", "equals"]), source.randint(-3, 3))
+                        for _ in range(source.randint(1, many + 2))]
+                ends = [source.choice([(None, None), (None, None), (0, None), (None, 2), (-1, 1)]) for _ in range(many)]
+                system = System(ends, rows)
+                aims = [[source.randint(-3, 3) for _ in range(many)] for _ in range(source.randint(1, 3))]
+                if outcome(system, aims) == "way":
+                    counts[0] += 1
+                    self.assertTrue(leads(system, aims, *way(system, aims)))
+                elif outcome(system, aims) == "bar":
+                    counts[1] += 1
+                    self.assertTrue(bars(system, bar(system)))
+        self.assertGreater(min(counts), 60)
+
     def test_small_systems_with_many_aims(self):
         """Values at 0, and rows that all touch it: supports with parts of both signs behind those above 0."""
         source, counts = Random(11), [0, 0]
