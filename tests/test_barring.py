@@ -140,7 +140,7 @@ class ShorterTest(unittest.TestCase):
                 if wanted:
                     self.assertTrue(self.is_way(system, ahead, aim, told))
                     self.assertIsNotNone(found)
-        self.assertGreater(min(counts), 100)
+        self.assertGreater(min(counts), 60)
 
     def is_way(self, system, ahead, aim, direction):
         if not leads(system, [aim], [0] * len(system), list(direction)):
