@@ -1,7 +1,7 @@
 """Charts: accounts, each one below its head, and units."""
 
 from lateledger.errors import InvalidAccounts, InvalidChart, InvalidUnits, TooMany, UnknownAccount, UnknownUnit
-from lateledger.words import is_list, is_name
+from lateledger.words import is_among, is_list, is_name
 
 MOST_ACCOUNTS = 60
 MOST_UNITS = 8
@@ -100,10 +100,10 @@ class Chart:
 
     def has_unit(self, value):
         """Whether any value is a unit of the chart."""
-        return isinstance(value, str) and value in self._units
+        return is_among(self._units, value)
 
     def __contains__(self, value):
-        return isinstance(value, str) and value in self._accounts
+        return is_among(self._accounts, value)
 
     def __len__(self):
         return len(self._accounts)

@@ -6,15 +6,12 @@ from lateledger.moves import check_move, has_move, is_move, some_move
 from lateledger.ratios import Ratio, are_numbers, is_number, ratio_of, ratios_of, sum_of_products
 from lateledger.solving import Solver
 from lateledger.systems import AT_MOST
-from lateledger.words import is_pair
+from lateledger.words import is_keyed_among, is_pair
 
 
 def are_holdings(moves, value):
     """Whether any value is a dict from goods of the moves to NUMBERS."""
-    if not isinstance(value, dict):
-        return False
-    goods = moves.goods()
-    return all([isinstance(good, str) and good in goods and is_number(number) for good, number in value.items()])
+    return is_keyed_among(moves.goods(), value) and all([is_number(number) for number in list(value.values())])
 
 
 def _check_holdings(moves, holdings):

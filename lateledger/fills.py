@@ -5,6 +5,7 @@ from lateledger.orders import Round
 from lateledger.ratios import Ratio, is_number, ratio_of, ratios_of, sum_of_products
 from lateledger.solving import Solver
 from lateledger.systems import EQUALS, lies_within
+from lateledger.words import is_keyed_among
 
 
 def check_round(deals):
@@ -21,9 +22,9 @@ def check_fills(deals, fills):
 
 def are_of_just(names, value):
     """Whether any value is a dict from just these names to NUMBERS."""
-    if not isinstance(value, dict) or len(value) != len(names):
+    if not is_keyed_among(names, value) or len(value) != len(names):
         return False
-    return all([name in value and is_number(value[name]) for name in names])
+    return all([is_number(value[name]) for name in names])
 
 
 def are_fills(deals, value):

@@ -4,7 +4,7 @@ from lateledger.carrying import greatest_solver, span_of
 from lateledger.errors import InvalidSet
 from lateledger.lines import are_payments, volume_of
 from lateledger.ratios import Ratio, whole_multiples
-from lateledger.words import is_list
+from lateledger.words import is_among, is_list
 
 
 class Bounds:
@@ -64,7 +64,7 @@ def _wrong_place(clearing, some):
     """The first place with no house of the clearing, or with one that stands ahead; None without one."""
     houses = clearing.houses()
     for position, house in enumerate(some):
-        if house not in houses or house in some[:position]:
+        if not is_among(houses, house) or house in some[:position]:
             return position
     return None
 

@@ -2,7 +2,7 @@
 
 from lateledger.errors import InvalidBundle, InvalidFutures, TooMany, UnknownFuture
 from lateledger.orders import told_bundle
-from lateledger.words import is_bundle, is_name
+from lateledger.words import is_among, is_bundle, is_name
 
 MOST_FUTURES = 8
 
@@ -35,7 +35,7 @@ class Futures:
         return list(self._worths)
 
     def _check_name(self, name):
-        if not isinstance(name, str) or name not in self._worths:
+        if not is_among(self._worths, name):
             raise UnknownFuture(name)
 
     def worths(self, name):

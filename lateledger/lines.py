@@ -3,7 +3,7 @@
 from lateledger.errors import InvalidLine, InvalidLines, InvalidOwed, InvalidPayments, TooMany, UnknownLine
 from lateledger.ratios import Ratio, are_numbers, is_number, ratio_of, ratios_of, sum_of_products
 from lateledger.systems import lies_within
-from lateledger.words import is_count, is_list, is_name
+from lateledger.words import is_among, is_count, is_list, is_name
 
 
 def _is_owed(value):
@@ -20,7 +20,7 @@ def _is_line(owed, value):
     if not isinstance(value, tuple) or len(value) != 4:
         return False
     one, other, most, cost = value
-    if not all([isinstance(house, str) and house in owed for house in (one, other)]) or one == other:
+    if not is_among(owed, one) or not is_among(owed, other) or one == other:
         return False
     return is_count(most) and is_count(cost)
 

@@ -5,7 +5,7 @@ from lateledger.errors import InvalidCondition, InvalidConditions, InvalidGoods,
 from lateledger.errors import InvalidPosition, NoMove, OtherGoods, TooMany
 from lateledger.fills import are_of_just
 from lateledger.ratios import Ratio, ratio_of
-from lateledger.words import is_count, is_good, is_integer, is_list, is_triple
+from lateledger.words import is_among, is_count, is_good, is_integer, is_list, is_triple
 
 MOST_GOODS = 4
 MOST_CONDITIONS = 24
@@ -13,7 +13,7 @@ MOST_CONDITIONS = 24
 
 def _is_one_of(goods, value):
     """Whether any value is one of the goods, or None."""
-    return value is None or (isinstance(value, str) and value in goods)
+    return value is None or is_among(goods, value)
 
 
 def _is_condition(goods, value):

@@ -2,7 +2,7 @@
 
 from lateledger.errors import InvalidBundle, InvalidHouse, InvalidLimit, InvalidMost, InvalidName, InvalidOrder
 from lateledger.errors import InvalidOrders, NameTaken, TooMany, UnknownOrder
-from lateledger.words import is_bundle, is_count, is_integer, is_list, is_name
+from lateledger.words import is_among, is_bundle, is_count, is_integer, is_list, is_name
 
 MOST_ORDERS = 12
 MOST_GOODS = 4
@@ -120,7 +120,7 @@ class Round:
         return [name for name, order in self._orders.items() if order.house == house]
 
     def __contains__(self, value):
-        return isinstance(value, str) and value in self._orders
+        return is_among(self._orders, value)
 
     def __len__(self):
         return len(self._orders)

@@ -9,7 +9,7 @@ from lateledger.solving import least_whole
 from lateledger.spaces import Elimination, rank
 from lateledger.weighing import Weighing, are_known, check_many, check_report, check_reports
 from lateledger.weighing import set_off_weights, weights_at
-from lateledger.words import is_count, is_integer, is_list, is_triple
+from lateledger.words import is_among, is_count, is_integer, is_list, is_triple
 
 MOST_OFFERED = 8
 
@@ -166,7 +166,7 @@ def is_kept_set(chart, offered, value):
 
 
 def _is_sorted_of(offered, paper):
-    if not is_list(paper) or not all([isinstance(name, str) and name in offered for name in paper]):
+    if not is_list(paper) or not all([is_among(offered, name) for name in paper]):
         return False
     return list(paper) == sorted(set(paper))
 

@@ -5,7 +5,7 @@ from lateledger.fills import are_fills, are_of_just, check_fills, check_round, f
 from lateledger.ratios import Ratio, ratio_of, ratios_of, sum_of_products
 from lateledger.solving import Solver
 from lateledger.systems import AT_MOST
-from lateledger.words import is_pair
+from lateledger.words import is_among, is_pair
 
 
 def _are_prices(deals, value):
@@ -115,7 +115,7 @@ def price_span(deals, good):
     """The tuple of the least and the greatest price of a good in prices that support the best fills."""
     check_round(deals)
     goods = deals.goods()
-    if good not in goods:
+    if not is_among(goods, good):
         raise InvalidGood(good)
     return _span_by([(None, None) for _ in goods], _rows_of_support(deals), goods.index(good))
 

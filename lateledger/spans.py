@@ -110,10 +110,17 @@ def is_way(futures, quotes, bundle, value):
     return True
 
 
+def _is_side(quotes, value):
+    """Whether any value is a side of the quotes."""
+    if not is_pair(value) or not is_count(value[0]) or not isinstance(value[1], str):
+        return False
+    return (value[0], value[1]) in sides_of(quotes)
+
+
 def is_needless(futures, quotes, side):
     """Whether all weights, none below 0, that keep the other sides keep this one."""
     check_quotes(quotes)
-    if not is_pair(side) or not is_count(side[0]) or side not in sides_of(quotes):
+    if not _is_side(quotes, side):
         raise InvalidSide(side)
     check_many_quotes(quotes)
     _check_fair(futures, quotes)

@@ -3,7 +3,7 @@
 from lateledger.errors import InvalidEnds, InvalidPlace, InvalidRow, InvalidRows, InvalidUnknowns
 from lateledger.errors import InvalidValues, TooMany
 from lateledger.ratios import are_numbers, is_number, ratio_of, ratios_of, sum_of_products
-from lateledger.words import is_count, is_list, is_pair, is_triple
+from lateledger.words import is_among, is_count, is_list, is_pair, is_triple
 
 MOST_UNKNOWNS = 16
 MOST_ROWS = 24
@@ -28,7 +28,7 @@ def is_row(value, many):
     if not is_triple(value):
         return False
     weights, word, bound = value
-    if not isinstance(word, str) or word not in (EQUALS, AT_MOST):
+    if not is_among((EQUALS, AT_MOST), word):
         return False
     return are_numbers(weights, many) and is_number(bound)
 

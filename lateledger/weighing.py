@@ -2,7 +2,7 @@
 
 from lateledger.accounts import is_place
 from lateledger.errors import InvalidReport, InvalidReports, TooMany
-from lateledger.words import is_integer, is_name
+from lateledger.words import is_integer, is_keyed_among, is_name
 
 MOST_REPORTS = 12
 
@@ -62,7 +62,7 @@ def set_off_weights(chart, report):
 
 def are_known(kept, value):
     """Whether any value is a dict whose keys are names of the kept reports."""
-    return isinstance(value, dict) and all([name in kept for name in value])
+    return is_keyed_among(kept, value)
 
 
 class Weighing:

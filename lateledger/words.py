@@ -39,6 +39,19 @@ def is_list(value):
     return isinstance(value, (list, tuple))
 
 
+def is_among(names, value):
+    """Whether any value is one of some strings, the keys of a dict or the elements of a list.
+
+    What is no string is none of them, even if it calls itself equal to all.
+    """
+    return isinstance(value, str) and value in names
+
+
+def is_keyed_among(names, value):
+    """Whether any value is a dict whose keys are some of the strings."""
+    return isinstance(value, dict) and all([is_among(names, key) for key in value])
+
+
 def is_pair(value):
     """Whether any value is a tuple of two."""
     return isinstance(value, tuple) and len(value) == 2

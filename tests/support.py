@@ -15,6 +15,55 @@ from lateledger.systems import System
 GREAT = 10 ** 30 - 1
 
 
+class EqualToAll:
+    """Of no kind that is asked for, though it is equal to everything."""
+
+    def __eq__(self, other):
+        return True
+
+
+class NotCompared:
+    """Of no kind that is asked for; to compare it fails."""
+
+    def __eq__(self, other):
+        raise RuntimeError("not to be compared")
+
+
+class KeyEqualToAll(EqualToAll):
+    """Found in dicts and sets in the place of a word, though it is none."""
+
+    def __init__(self, word):
+        self.word = word
+
+    def __hash__(self):
+        return hash(self.word)
+
+
+class KeyNotCompared(NotCompared):
+    """Looked for in dicts and sets in the place of a word; to compare it fails."""
+
+    def __init__(self, word):
+        self.word = word
+
+    def __hash__(self):
+        return hash(self.word)
+
+
+def looks_like(value, *others):
+    """Whether a value is told as one of the others; for values that cannot be compared, or are equal to all."""
+    return repr(value) in [repr(other) for other in others]
+
+
+def strange_values(*words):
+    """Values that are equal to all or cannot be compared, some of which have the hashes of these words."""
+    return [EqualToAll(), NotCompared()] + [kind(word) for word in words for kind in (KeyEqualToAll, KeyNotCompared)]
+
+
+def strange_keys(*words):
+    """Values that stand in dicts where these words are looked for."""
+    return strange_values(*words)[2:]
+
+
 def values_of_every_kind():
     """New values of every kind but floats."""
     return [
@@ -23,7 +72,7 @@ def values_of_every_kind():
         (0, 0, 0), ([], [], []), {}, {"a": 1}, {"tea": 0}, {1: 1}, {True: 1}, {("a", "coin"): 1}, set(), frozenset(["a"]),
         range(2), Ratio(0), Ratio(1), Ratio(1, 2), object(), int, len, System([(0, 1)]), Chart(["a"], ["coin"]),
         Journal(Chart(["a"], ["coin"])), Order("a", {}, 0, 0), Round({}), Clearing({"a": 0}), Moves(["x"]),
-        Futures({"dry": {}}), LookupError("a"), slice(0, 1),
+        Futures({"dry": {}}), LookupError("a"), slice(0, 1), *strange_values("a", "tea"), (EqualToAll(), 1), [NotCompared()],
     ]
 
 

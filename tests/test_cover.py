@@ -11,7 +11,7 @@ from lateledger.ratios import Ratio
 from tests.changes import GOODS, grid_moves, is_cover_paper_by_sums, is_family_by_sums, keeps, loss_by_sums, some_holdings
 from tests.changes import some_moves
 from tests.market import ratio
-from tests.support import GREAT, Checks, fraction, values_of_every_kind
+from tests.support import GREAT, Checks, fraction, looks_like, values_of_every_kind
 
 TWO = Moves(["x", "y"], [("x", None, 2), (None, "x", 3), ("y", "x", 1), ("x", "y", 1)])
 RINGED = TWO + ("x", None, -4)
@@ -98,7 +98,7 @@ class CoverTest(Checks, unittest.TestCase):
 
     def test_wrong_holdings(self):
         wrong = [{"x": True}, {"z": 1}, {"x": 1, None: 1}, {"x": None}, [("x", 1)], {"x": "1"}, {0: 1}, {True: 0}]
-        for value in [one for one in values_of_every_kind() if one != {}] + wrong:
+        for value in [one for one in values_of_every_kind() if not looks_like(one, {})] + wrong:
             for moves in (TWO, RINGED):
                 for call in (outcome, cover, worst_move, cover_paper, family, tightened_covers, mattering):
                     self.assert_keeps(InvalidHoldings, value, call, moves=moves, holdings=value)

@@ -7,7 +7,7 @@ from lateledger.errors import InvalidBundle, InvalidFutures, TooMany, UnknownFut
 from lateledger.futures import Futures
 from lateledger.ratios import Ratio
 from tests.pricing import some_bundle, some_futures, worth_by_sums
-from tests.support import GREAT, Checks, values_of_every_kind
+from tests.support import GREAT, Checks, looks_like, values_of_every_kind
 
 TWO = Futures({"wet": {"oil": 3, "corn": 2, "tea": 0}, "dry": {"corn": 4, "oil": 1}})
 
@@ -45,7 +45,7 @@ class FuturesTest(Checks, unittest.TestCase):
         for value in values_of_every_kind():
             self.assert_keeps(UnknownFuture, value, TWO.worths, value)
             self.assert_keeps(UnknownFuture, value, TWO.worth, {"corn": 1}, value)
-            if value not in ({}, {"a": 1}, {"tea": 0}) or value.__class__ is not dict:
+            if not looks_like(value, {}, {"a": 1}, {"tea": 0}):
                 self.assert_keeps(InvalidBundle, value, TWO.worth, value, "fog")
                 self.assert_keeps(InvalidBundle, value, TWO.all_worths, value)
         self.assert_keeps(UnknownFuture, "fog", TWO.worths, "fog")

@@ -6,7 +6,7 @@ from random import Random
 from lateledger.errors import InvalidLine, InvalidLines, InvalidOwed, InvalidPayments, TooMany, UnknownLine
 from lateledger.lines import Clearing, cost, does_fit, paid, rest, volume
 from lateledger.ratios import Ratio
-from tests.support import GREAT, Checks, values_of_every_kind
+from tests.support import GREAT, Checks, looks_like, values_of_every_kind
 from tests.trust import all_payments, cost_by_sums, fits, paid_by_sums, some_clearing, volume_by_sums
 from tests.market import ratio, ratios
 
@@ -38,7 +38,7 @@ class LinesTest(Checks, unittest.TestCase):
     def test_wrong_owed(self):
         wrong = [{"a": 1}, {"a": 1, "b": -2}, {"a": 0, "B": 0}, {"a": True, "b": -1}, {"a": False}, {1: 0}, {"": 0},
                  {"a": None}, [("a", 0)], {"a": Ratio(1, 2), "b": Ratio(-1, 3)}]
-        for value in [one for one in values_of_every_kind() if one != {"tea": 0}] + wrong:
+        for value in [one for one in values_of_every_kind() if not looks_like(one, {"tea": 0})] + wrong:
             self.assert_keeps(InvalidOwed, value, Clearing, value)
             self.assert_keeps(InvalidOwed, value, Clearing, value, None)
             self.assert_keeps(InvalidOwed, value, HALL.with_owed, value)
@@ -130,7 +130,7 @@ class LinesTest(Checks, unittest.TestCase):
     def test_wrong_payments(self):
         wrong = [[1], [1, 1, 1], [True, 1], [1, None], {0: 1, 1: 1}, [3, 0], [-1, 1], [0, 2], [1, Ratio(3, 2)], "11"]
         for value in values_of_every_kind() + wrong:
-            if value != (1, 2) and not (isinstance(value, tuple) and value == (1, 2)):
+            if not looks_like(value, (1, 2)):
                 self.assert_bool(does_fit(HALL, value), False)
                 for call in (paid, rest, volume, cost):
                     self.assert_keeps(InvalidPayments, value, call, clearing=HALL, payments=value)

@@ -9,7 +9,7 @@ from lateledger.moves import Moves, are_alike, broken, chain, is_move, is_ring, 
 from lateledger.moves import tightest
 from lateledger.ratios import Ratio
 from tests.changes import all_chains, ends_of_chain, grid_moves, keeps, least_chain, least_ring, some_moves, sum_of_chain
-from tests.support import GREAT, Checks, values_of_every_kind
+from tests.support import GREAT, Checks, looks_like, values_of_every_kind
 
 TWO = Moves(["y", "x"], [("x", None, 2), (None, "x", 3), ("y", "x", 1), ("x", "y", 1)])
 RINGED = Moves(["x"], [("x", None, -1), (None, "x", 0)])
@@ -39,7 +39,7 @@ class MovesTest(Checks, unittest.TestCase):
         for value in values_of_every_kind():
             if not isinstance(value, (list, tuple)) or len(value) == 0:
                 self.assert_raises(InvalidGoods, {"position": None}, Moves, value)
-            if value not in ("a", "tea", "abcdefgh", "equals"):
+            if not looks_like(value, "a", "tea", "abcdefgh", "equals"):
                 self.assert_raises(InvalidGoods, {"position": 1}, Moves, ["x", value, "x"], None)
         for wrong in ("coin", "hall", "outside", "x", "X", "abcdefghi"):
             self.assert_raises(InvalidGoods, {"position": 2}, Moves, ("x", "y", wrong, "y"))

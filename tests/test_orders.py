@@ -6,7 +6,7 @@ from lateledger.errors import InvalidBundle, InvalidHouse, InvalidLimit, Invalid
 from lateledger.errors import InvalidOrders, NameTaken, TooMany, UnknownOrder
 from lateledger.orders import Order, Round
 from lateledger.ratios import Ratio
-from tests.support import GREAT, Checks, values_of_every_kind
+from tests.support import GREAT, Checks, looks_like, values_of_every_kind
 
 SELL = Order("a", {"tea": -1}, -4, 3)
 BUY = Order("b", {"tea": 1, "oil": 2, "corn": 0}, 7, 2)
@@ -51,7 +51,7 @@ class OrderTest(Checks, unittest.TestCase):
                 self.assert_keeps(InvalidHouse, value, Round({}).of_house, value)
 
     def test_wrong_bundles(self):
-        wrong = [value for value in values_of_every_kind() if value not in ({}, {"a": 1}, {"tea": 0}) or value.__class__ is not dict]
+        wrong = [value for value in values_of_every_kind() if not looks_like(value, {}, {"a": 1}, {"tea": 0})]
         for value in wrong + [{"coin": 1}, {"hall": 0}, {"outside": 1}, {"tea": True}, {"tea": Ratio(1)}, {"tea": 1, "Oil": 1},
                               {"tea": None}, [("tea", 1)], {"tea": "1"}]:
             self.assert_keeps(InvalidBundle, value, Order, "a", value, 0, 0)

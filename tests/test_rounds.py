@@ -10,7 +10,7 @@ from lateledger.ratios import Ratio
 from lateledger.rounds import are_prices, bound, do_support, is_supported, price_span, surplus, told_prices, trades
 from tests.market import best_corners, corners, ratio, ratios, rows_of_prices, some_round, span_by_elimination
 from tests.market import told_by_elimination
-from tests.support import GREAT, Checks, fraction, values_of_every_kind
+from tests.support import GREAT, Checks, fraction, looks_like, values_of_every_kind
 
 TEA = Round({"x": Order("a", {"tea": -1}, -4, 3), "y": Order("b", {"tea": 1}, 7, 2), "z": Order("c", {"tea": 1}, 9, 1)})
 
@@ -128,7 +128,7 @@ class RoundsTest(Checks, unittest.TestCase):
                              lambda: do_support(value, {}, {}), lambda: told_prices(value), lambda: price_span(value, "tea"),
                              lambda: is_supported(value, 1), lambda: trades(value, {}, {})):
                     self.assert_keeps(InvalidRound, value, call)
-            if value != {"tea": 0}:
+            if not looks_like(value, {"tea": 0}):
                 self.assert_bool(are_prices(TEA, value), False)
                 self.assert_bool(do_support(TEA, fills, value), False)
                 self.assert_keeps(InvalidPrices, value, surplus, TEA, value, "u")
@@ -137,7 +137,7 @@ class RoundsTest(Checks, unittest.TestCase):
             self.assert_keeps(InvalidFills, value, trades, TEA, value, value)
             self.assert_keeps(InvalidFills, value, do_support, TEA, value, value)
             self.assert_keeps(UnknownOrder, value, surplus, TEA, prices, value)
-            if value != "tea":
+            if not looks_like(value, "tea"):
                 self.assert_keeps(InvalidGood, value, price_span, TEA, value)
             self.assert_bool(is_supported(TEA, value), False)
             self.assert_bool(is_supported(TEA, (fills, value)), False)
