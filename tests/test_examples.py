@@ -89,6 +89,35 @@ QUOTES = """
 [None, ({'corn': 1, 'oil': 1}, None, None)]
 """
 
+RUNS = """
+>>> from lateledger.days import Run
+>>> run, done = Run(["ann", "ben"], ["oil"], 2).with_fact(("a", 1, "transfer", "ann", "oil", 3))
+>>> done
+[(1, 'in'), (1, 'trades'), (1, 'pay'), (1, 'cover'), (1, 'call'), (2, 'in'), (2, 'trades'), (2, 'pay'), (2, 'cover'), (2, 'call')]
+>>> run, done = run.with_fact(("b", 2, "order", "ben", {"oil": 1}, 5, 2))
+>>> last, more = run.with_fact(("c", 2, "order", "ann", {"oil": -1}, -4, 1))
+>>> [done, more[:2], last.makes(2, "round"), last.owed(2)]
+[[(2, 'round'), (2, 'trades')], [(2, 'round'), (2, 'trades')], ({'b': Ratio(1, 1), 'c': Ratio(1, 1)}, {'oil': Ratio(5, 1)}), {'ann': Ratio(-5, 1), 'ben': Ratio(5, 1)}]
+"""
+
+HALLS = """
+>>> from lateledger.closing import Hall
+>>> shut = Hall(["ann"], ["oil"], 2)
+>>> [shut.close(1), shut.tell(("a", 1, "transfer", "ann", "oil", 3))[0], shut.closed, shut.told_balances(1)]
+[1, (1, 'in'), 1, {}]
+>>> [shut.corrections(), shut.told_balances(2) == shut.run.balances(2), shut.as_known(1).corrections(), len(shut)]
+[[('ann.goods', 'oil', Ratio(3, 1)), ('outside', 'oil', Ratio(-3, 1))], True, [], 2]
+"""
+
+DEEDS = """
+>>> from lateledger.closing import Hall
+>>> from lateledger.deeds import do_agree, do_part_at
+>>> town, shut = Hall(["ann", "ben"], ["oil"], 2), [("close", 1), ("close", 2)]
+>>> told = [("tell", ("a", 1, "transfer", "ann", "oil", 3)), ("tell", ("b", 2, "transfer", "ben", "coin", 1))]
+>>> [do_agree(town, told[0], shut[0]), do_agree(town, told[1], shut[0]), do_part_at(town, shut[1], told[1])]
+[False, True, True]
+"""
+
 
 class ExamplesTest(unittest.TestCase):
     def run_example(self, text):
@@ -115,6 +144,15 @@ class ExamplesTest(unittest.TestCase):
 
     def test_quotes(self):
         self.run_example(QUOTES)
+
+    def test_runs(self):
+        self.run_example(RUNS)
+
+    def test_halls(self):
+        self.run_example(HALLS)
+
+    def test_deeds(self):
+        self.run_example(DEEDS)
 
     def test_readme(self):
         text = (Path(__file__).parent.parent / "README.md").read_text(encoding="ascii")
