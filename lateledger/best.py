@@ -16,6 +16,13 @@ def _check_system(system):
         raise InvalidSystem(system)
 
 
+def are_aims(system, value):
+    """Whether any value is aims of what is a System."""
+    if not is_list(value) or not 1 <= len(value) <= MOST_AIMS:
+        return False
+    return all([are_numbers(aim, len(system)) for aim in value])
+
+
 def _check_aims(system, aims, fewest):
     if not is_list(aims) or not fewest <= len(aims) <= MOST_AIMS:
         raise InvalidAims(None)

@@ -1,6 +1,6 @@
 """What a run may be made of: its houses, goods and days, and how many facts of each word."""
 
-from lateledger.errors import InvalidGoods, InvalidHouses, TooMany
+from lateledger.errors import InvalidGoods, InvalidHouses, LedgerError, LimitError, StateError, TooMany
 from lateledger.facts import counting, is_fact, told_fact
 from lateledger.faults import InvalidDays, InvalidFacts, KnownId
 from lateledger.words import is_good, is_integer, is_list
@@ -79,3 +79,15 @@ def check_many_facts(facts):
     for word, most in MOST_PAIRS:
         if len(set([fact[3:5] for fact in known if fact[2] == word])) > most:
             raise TooMany(word + "s", most)
+
+
+def can_be_run(houses, goods, days, facts):
+    """Whether any values are houses, goods, days and facts of a run."""
+    try:
+        check_parts(houses, goods, days)
+        told = facts_by_id(facts, houses, goods, days)
+        check_many_parts(houses, goods, days)
+        check_many_facts(list(told.values()))
+    except (LedgerError, StateError, LimitError):
+        return False
+    return True

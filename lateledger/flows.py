@@ -56,7 +56,8 @@ class Bounds:
         return [house for place, house in enumerate(self._houses) if (chosen >> place) & 1]
 
 
-def _are_unlike_houses(clearing, value):
+def are_unlike_houses(clearing, value):
+    """Whether any value is a list of unlike houses of the clearing."""
     return is_list(value) and _wrong_place(clearing, value) is None
 
 
@@ -81,7 +82,7 @@ def bound(clearing, some):
 
 def is_least(clearing, value):
     """Whether any value is a list of the houses of a least set."""
-    if not _are_unlike_houses(clearing, value):
+    if not are_unlike_houses(clearing, value):
         return False
     bounds = Bounds(clearing)
     return bounds.of(value) == bounds.least()

@@ -16,6 +16,11 @@ def is_quote(value):
     return all([price is None or is_number(price) for price in value[1:]])
 
 
+def are_quotes(value):
+    """Whether any value is a list of quotes, not more than are let."""
+    return is_list(value) and len(value) <= MOST_QUOTES and all([is_quote(quote) for quote in value])
+
+
 def check_quotes(quotes):
     """InvalidQuotes unless the value is a list of quotes."""
     if not is_list(quotes):

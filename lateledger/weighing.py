@@ -20,11 +20,16 @@ def check_report(chart, report):
         raise InvalidReport(report)
 
 
+def are_reports(chart, value):
+    """Whether any value is a dict from NAMES to reports of the chart."""
+    if not isinstance(value, dict):
+        return False
+    return all([is_name(name) and is_report(chart, report) for name, report in value.items()])
+
+
 def check_reports(chart, reports):
     """InvalidReports unless the value is a dict from NAMES to reports of the chart."""
-    if not isinstance(reports, dict):
-        raise InvalidReports(reports)
-    if not all([is_name(name) and is_report(chart, report) for name, report in reports.items()]):
+    if not are_reports(chart, reports):
         raise InvalidReports(reports)
 
 

@@ -112,10 +112,52 @@ HALLS = """
 DEEDS = """
 >>> from lateledger.closing import Hall
 >>> from lateledger.deeds import do_agree, do_part_at
+>>> from lateledger.meet import how_many_ends, met
+>>> from lateledger.quarrels import least_cover, matching, quarrels
 >>> town, shut = Hall(["ann", "ben"], ["oil"], 2), [("close", 1), ("close", 2)]
 >>> told = [("tell", ("a", 1, "transfer", "ann", "oil", 3)), ("tell", ("b", 2, "transfer", "ben", "coin", 1))]
 >>> [do_agree(town, told[0], shut[0]), do_agree(town, told[1], shut[0]), do_part_at(town, shut[1], told[1])]
 [False, True, True]
+>>> [quarrels(town, told, shut), least_cover(town, told, shut), len(matching(town, told, shut)), how_many_ends(town, told, shut[:1])]
+[[(0, 0), (0, 1), (1, 1)], [(0, 0), (0, 1)], 2, 2]
+>>> [met(town, told, shut)[0], met(town, told, shut)[1].closed, met(town, told[1:], shut[:1])[0]]
+[[(0, 0), (0, 1)], 2, []]
+"""
+
+TEXTS = """
+>>> from lateledger.closing import Hall
+>>> from lateledger.log import Log, check_of
+>>> from lateledger.texts import line_of, text_of
+>>> town = Hall(["ann", "ben"], ["oil"], 2)
+>>> town.tell(("q", 1, "quote", {"oil": 2}, None, -3))
+[(1, 'fair')]
+>>> [town.close(1), line_of(town, ("tell", ("s", "strike", "q"))), text_of(town)]
+[1, 'tell s strike q', 'hall 2\\nhouses ann ben\\ngoods oil\\ntell q 1 quote - -3 oil 2\\nclose 1\\n']
+>>> log = Log(["close 1", ("a", "b")])
+>>> [check_of(1, "close 1"), log.records(), len(log), Log.torn(log.sheet()[:-1]) == (log.first(1), 1)]
+['2061', ['close 1', 'a', 'b'], 2, True]
+"""
+
+CLAIMS = """
+>>> from lateledger.claims import is_claim, is_paper, is_true, paper_of
+>>> from lateledger.lines import Clearing
+>>> hall = Clearing({"a": 4, "b": -3, "c": -1}, [("a", "c", 2, 0), ("a", "b", 2, 1)])
+>>> [is_true(("paid", hall)), paper_of(("paid", hall)), is_paper(("held", hall), ["c", "a"]), is_paper(("held", hall), ["a"])]
+[False, None, True, False]
+>>> [is_claim(("cost", hall, 2)), is_true(("cost", hall, 3)), is_claim(("cost", hall, True)), is_claim(("paid",))]
+[True, False, False, False]
+"""
+
+DESKS = """
+>>> from lateledger.desk import Desk, tried
+>>> desk = Desk(["ann", "ben"], ["oil"], 2)
+>>> desk["all"] = {("ann", "oil"): 1, ("ben", "oil"): 1}
+>>> desk.do_all("tell b 2 order ben 5 2 oil 1", "tell c 2 order ann -4 1 oil -1", "fills 2", "prices 2", "owes ben 2")
+['2', '6', 'b 1 c 1', 'oil 5', '5']
+>>> [desk.do("value all 2"), tried(desk, lambda held: held.do("undo")), len(desk)]
+['0', 'tell c 2 order ann -4 1 oil -1', 2]
+>>> [desk.do("undo"), desk.do("fills 2"), Desk.recovered(["ann", "ben"], ["oil"], 2, desk.log().sheet())[1]]
+['tell c 2 order ann -4 1 oil -1', 'b 0', 2]
 """
 
 
@@ -153,6 +195,15 @@ class ExamplesTest(unittest.TestCase):
 
     def test_deeds(self):
         self.run_example(DEEDS)
+
+    def test_texts(self):
+        self.run_example(TEXTS)
+
+    def test_claims(self):
+        self.run_example(CLAIMS)
+
+    def test_desks(self):
+        self.run_example(DESKS)
 
     def test_readme(self):
         text = (Path(__file__).parent.parent / "README.md").read_text(encoding="ascii")

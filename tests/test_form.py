@@ -10,7 +10,7 @@ BUILTINS = """len range enumerate zip min max sum abs sorted reversed int str bo
     repr any all divmod Exception ValueError TypeError KeyError IndexError LookupError ZeroDivisionError ArithmeticError
     OverflowError RuntimeError NotImplementedError StopIteration NotImplemented iter next map property classmethod
     staticmethod super""".split()
-METHODS = """append clear copy count endswith extend find get index insert isalnum isalpha isdigit islower isspace isupper items
+METHODS = """append clear copy count encode endswith extend find get index insert isalnum isalpha isdigit islower isspace isupper items
     join keys ljust lower lstrip partition pop remove replace reverse rfind rjust rpartition rsplit rstrip setdefault split
     splitlines startswith strip update upper values zfill bit_length""".split()
 LIBRARY = {"math": ["gcd", "lcm", "isqrt", "comb", "perm", "factorial"],
@@ -64,7 +64,30 @@ class FormTest(unittest.TestCase):
         self.assert_none((name, node.lineno) for name, node in self.all_of(ast.stmt) if not isinstance(node, STATEMENTS))
         self.assert_none((name, node.lineno) for name, node in self.all_of(ast.AugAssign))
         self.assert_none((name, node.lineno) for name, node in self.all_of(
-            ast.GeneratorExp, ast.Yield, ast.YieldFrom, ast.Await, ast.Global, ast.Import, ast.Match, ast.Lambda))
+            ast.GeneratorExp, ast.YieldFrom, ast.Await, ast.Global, ast.Import, ast.Match, ast.Lambda))
+
+    def test_the_only_generator(self):
+        """It yields in a statement of its own, in no try, and nothing else has its name."""
+        found = [(name, node.name) for name, node in self.all_of(ast.FunctionDef)
+                 if any(isinstance(part, ast.Yield) for part in ast.walk(node))]
+        self.assertEqual(found, [("meet.py", "weavings")])
+        self.assertEqual([node.name for _, node in self.all_of(ast.FunctionDef) if node.name == "weavings"], ["weavings"])
+        self.assertEqual(len(self.all_of(ast.Yield)), 1)
+
+    def test_what_is_iterated_over_and_left(self):
+        """iter stands in an __iter__ of one statement alone; an __exit__ only puts attributes back."""
+        found = []
+        for name, node in self.all_of(ast.FunctionDef):
+            if node.name == "__iter__":
+                self.assertEqual(len(node.body), 1, name)
+                found += [name] if isinstance(node.body[0], ast.Return) else []
+            if node.name == "__exit__":
+                for row in node.body:
+                    self.assertIsInstance(row, ast.Assign, name)
+                    self.assertIsInstance(row.value, ast.Attribute, name)
+        self.assertEqual(found, ["log.py"])
+        self.assertEqual([name for name, node in self.all_of(ast.Name) if node.id == "iter"], ["log.py"])
+        self.assertEqual(LIBRARY.keys() & {"itertools"}, set())
 
     def test_values(self):
         self.assert_none((name, node.lineno) for name, node in self.all_of(ast.Div, ast.MatMult, ast.Pow))
@@ -139,9 +162,11 @@ class FormTest(unittest.TestCase):
         for path, tree in self.trees.items():
             known = BUILTINS + [node.name for node in tree.body if hasattr(node, "name")]
             known += [alias.name for node in tree.body if isinstance(node, ast.ImportFrom) for alias in node.names]
+            # A function that is passed is called by the name of its parameter.
+            known += ["cls"] + (["action"] if path.name == "desk.py" else [])
             for node in ast.walk(tree):
                 if isinstance(node, ast.Call) and isinstance(node.func, ast.Name):
-                    self.assertIn(node.func.id, known + ["cls"], (path, node.lineno))
+                    self.assertIn(node.func.id, known, (path, node.lineno))
                 if isinstance(node, ast.Call) and isinstance(node.func, ast.Attribute):
                     self.assertIn(node.func.attr, METHODS + own_methods, (path, node.lineno))
 
@@ -169,7 +194,7 @@ class FormTest(unittest.TestCase):
             if isinstance(node, ast.Attribute):
                 told = [node.attr]
             elif isinstance(node, ast.Name):
-                told = [node.id]
+                told = [node.id] if node.id != "iter" else []
             elif isinstance(node, (ast.FunctionDef, ast.ClassDef)):
                 told = [node.name]
             for name in told:
