@@ -133,8 +133,8 @@ class Desk:
     def __call__(self, command):
         return self.do(command)
 
-    def __iadd__(self, command):
-        self.do(command)
+    def __iadd__(self, other):
+        self.do(other)
         return self
 
     def __getitem__(self, name):

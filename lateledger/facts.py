@@ -24,7 +24,9 @@ def is_fact(value, houses, goods, days):
         return False
     if len(value) == 3:
         return is_among((STRIKE,), value[1]) and is_name(value[2]) and value[2] != value[0]
-    if not is_day(value[1], days) or not is_among(LENGTHS, value[2]) or len(value) != LENGTHS[value[2]]:
+    if not is_day(value[1], days) or not isinstance(value[2], str):
+        return False
+    if value[2] not in LENGTHS or len(value) != LENGTHS[value[2]]:
         return False
     return _are_parts(value[2], value[3:], houses, goods)
 

@@ -82,10 +82,11 @@ class Clearing:
     def __sub__(self, other):
         if other not in self:
             raise UnknownLine(other)
-        return Clearing(self._owed, [line for line in self._lines if line != other])
+        return Clearing(self._owed, [line for line in self._lines if line[:2] != other[:2]])
 
     def __contains__(self, value):
-        return _is_line(self._owed, value) and value in self._lines
+        # A slice is a plain tuple, whatever kind of tuple it is of.
+        return _is_line(self._owed, value) and value[:4] in self._lines
 
     def __len__(self):
         return len(self._lines)

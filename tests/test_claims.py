@@ -262,8 +262,40 @@ class ClaimsTest(Checks, unittest.TestCase):
         claim = ("unlike", *RUN, [FACT], [FACT, order])
         found = [(day, word) for day in (1, 2) for word in papers.WORDS if is_paper(claim, (day, word))]
         self.assertEqual(found, [(2, "round")])
-        for wrong in ((2, "rounds"), (0, "round"), (3, "round"), (True, "in"), ["2", "round"], (2, "round", 1), (2,), [2, "round"], (2, None)):
+        self.assert_same(paper_of(claim), (2, "round"))
+        for wrong in ((2, "rounds"), (0, "round"), (3, "round"), (True, "in"), ["2", "round"], (2, "round", 1), (2,), [2, "round"], (2, None),
+                      *[(2, word) for word in strange_values("round")], *[(day, "round") for day in strange_values(2)]):
             self.assert_bool(is_paper(claim, wrong), False)
+
+    def test_papers_of_alike_runs_are_none_of_others(self):
+        facts = [("m", 1, "transfer", "ann", "oil", 1), FACT]
+        alike = ("alike", *RUN, facts, facts)
+        told = paper_of(alike)
+        self.assertEqual(told[5], {"ann": "endless", "ben": Ratio(0)})
+        for others in ([FACT], [], facts + [("t", 2, "order", "ann", {"oil": 1}, 1, 1)]):
+            for claim in (("alike", *RUN, facts, others), ("alike", *RUN, others, facts)):
+                self.assert_bool(is_paper(claim, told), False)
+        for word in strange_values("endless") + ["ring", "", None, True, 0, Ratio(0)]:
+            for other in ({"ann": word, "ben": 0}, {"ann": word, "ben": Ratio(0)}):
+                self.assert_bool(is_paper(alike, told[:5] + [other] + told[6:]), False)
+        self.assert_bool(is_paper(alike, told[:5] + [{"ben": 0, "ann": "endless"}] + told[6:]), True)
+
+    def test_journals_of_at_most_one_entry(self):
+        zero, one = ("stand", CHART, KEPT, {"p": 0, "q": 0}), ("stand", CHART, KEPT, {"p": 1, "q": -2})
+        entry, back = ([("a", "coin", sign), ("c", "coin", -sign)] for sign in (1, -1))
+        self.assert_bool(is_paper(one, [entry]), True)
+        self.assert_bool(is_paper(one, (tuple(entry),)), True)
+        self.assert_bool(is_paper(zero, [entry, back]), False)
+        self.assert_bool(is_paper(one, [entry, entry, back]), False)
+        self.assert_bool(is_paper(one, entry), False)
+
+    def test_twelve_and_thirteen_kept_reports(self):
+        kept = {name: {} for name in "abcdefghijklm"}
+        for many in (12, 13):
+            some = {name: kept[name] for name in sorted(kept)[:many]}
+            for claim in (("told", CHART, some, {}), ("apart", CHART, some, {}), ("stand", CHART, some, {name: 0 for name in some}),
+                          ("off", CHART, some, {name: 1 for name in some})):
+                self.assert_bool(is_claim(claim), many == 12)
 
 
 if __name__ == "__main__":

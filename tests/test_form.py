@@ -238,6 +238,26 @@ class FormTest(unittest.TestCase):
             if isinstance(node.func, ast.Name) and node.func.id == "reversed":
                 self.assertEqual(node.args[0].func.id, "range", (name, node.lineno))
 
+    def test_tables_are_only_read(self):
+        """A dict or list at module level is indexed, asked with `in`, or iterated over; it is not passed on."""
+        tables = {node.targets[0].id for tree in self.trees.values() for node in tree.body
+                  if isinstance(node, ast.Assign) and isinstance(node.value, (ast.Dict, ast.List))}
+        self.assertIn("COMMANDS", tables)
+        for path, tree in self.trees.items():
+            right = set()
+            for node in ast.walk(tree):
+                if isinstance(node, ast.Subscript):
+                    right.add(id(node.value))
+                if isinstance(node, ast.Compare):
+                    right.update(id(part) for part in node.comparators)
+                if isinstance(node, (ast.For, ast.comprehension)):
+                    right.add(id(node.iter))
+                if isinstance(node, ast.Assign):
+                    right.update(id(part) for part in node.targets)
+            for node in ast.walk(tree):
+                if isinstance(node, ast.Name) and node.id in tables:
+                    self.assertIn(id(node), right, (path, node.lineno))
+
     def test_functions_are_explained(self):
         """Each public function and method has a docstring, but for those of Python's own names."""
         self.assert_none((name, node.name) for name, node in self.all_of(ast.FunctionDef)

@@ -71,6 +71,19 @@ class OtherKindsTest(Checks, unittest.TestCase):
             self.assert_raises(InvalidPair, {"value": (value, None)}, tightest, BOUND, value, None)
             self.assert_keeps(InvalidRow, row, lambda: System([(0, 1)]) + row)
 
+    def test_tuples_that_are_equal_to_all(self):
+        class Equal(tuple):
+            def __eq__(self, other):
+                return True
+
+        line = Equal(("a", "b", 3, 0))
+        self.assert_bool(line in HALL, False)
+        self.assert_keeps(UnknownLine, line, lambda: HALL - line)
+        self.assert_bool(Equal(("a", "b", 2, 0)) in HALL, True)
+        self.assertEqual(len(HALL - Equal(("a", "b", 2, 0))), 0)
+        side = Equal((0, "asks"))
+        self.assert_keeps(InvalidSide, side, is_needless, TWO, QUOTES, side)
+
     def test_keys_of_dicts_of_a_round(self):
         for key in strange_keys("x"):
             fills = {key: 0, "y": 0}
