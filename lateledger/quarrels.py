@@ -64,7 +64,7 @@ def _is_place(one, other, value):
     """Whether any value is a tuple of a side and a position in the log of this side."""
     if not is_pair(value) or not all([is_count(number) for number in value]) or value[0] > 1:
         return False
-    return value[1] < len((one, other)[value[0]])
+    return value[1] < len(one if value[0] == 0 else other)
 
 
 def is_matching(hall, one, other, value):
